@@ -1,0 +1,1 @@
+"""Leastlog: a store that forgets nothing and keeps as little as that takes."""
