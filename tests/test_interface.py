@@ -1,0 +1,100 @@
+"""The interface: names, files, parameters, and methods that stand in their classes themselves."""
+
+import inspect
+import unittest
+from importlib import import_module
+
+# For each file its functions with their parameters, and its classes with those of their constructors and methods.
+FUNCTIONS = {
+    "forms": {"is_symbol": "value"},
+    "systems": {"form_rank": "forms flat=()", "lightest_base": "forms costs flat=()", "combination": "form forms flat=()",
+                "direction": "form forms flat=()", "solution": "flat", "contradiction": "flat"},
+    "moduletexts": {"read_module": "text"},
+    "checker": {"interface_of": "module", "first_fault": "module interfaces"},
+    "programs": {"carried": "old new"},
+}
+CONDITION = {"": "form", "holds_at": "point", "denied": "", "replaced": "forms"}
+CLASSES = {
+    ("amounts", "Amount"): {"": "top bottom=1", "over": "divisor", "below": "other"},
+    ("forms", "Form"): {"": "constant=0 weights=None", "of": "constant=0 **weights", "symbol": "symbol", "symbols": "",
+                        "weight": "symbol", "value_at": "point", "replaced": "forms", "over": "divisor"},
+    ("conditions", "Condition"): CONDITION,
+    ("conditions", "Zero"): CONDITION,
+    ("conditions", "NonZero"): CONDITION,
+    ("conditions", "Negative"): CONDITION,
+    ("conditions", "NonPositive"): CONDITION,
+    ("regions", "Region"): {"": "conditions=()", "conditions": "", "symbols": "", "joined": "*conditions", "is_possible": "",
+                            "has_point": "value", "inner_point": "", "forced": "", "flat": "", "refutation": "",
+                            "bound_certificate": "form", "two_points": "forms form"},
+    ("modules", "Module"): {"": "name imports=() cells=() procedures=() carries=()", "imports": "", "cells": "", "procedures": "",
+                            "carries": "", "cell_texts": ""},
+    ("checker", "Fault"): {"": "kind procedure label"},
+    ("programs", "Program"): {"": "*modules", "modules": "", "module_named": "name", "interfaces": "", "cells": "",
+                              "procedure_at": "text", "importers": "name", "with_module": "module"},
+    ("runs", "Run"): {"": "program procedure arguments cells=None", "traced": "program procedure arguments cells=None",
+                      "variables": "", "trace": "", "path": "", "reads": "", "writes": "", "step": "", "finish": "", "walk": "",
+                      "clone": ""},
+}
+PROPERTIES = {
+    ("amounts", "Amount"): "top bottom sign",
+    ("forms", "Form"): "constant_part is_constant linear_part",
+    ("conditions", "Condition"): "form",
+    ("runs", "Run"): "place is_over outcome stop_count",
+}
+SPECIALS = {
+    ("amounts", "Amount"): "add sub mul neg eq str repr",
+    ("forms", "Form"): "add sub mul neg eq str repr",
+    ("conditions", "Condition"): "eq str repr",
+    ("modules", "Module"): "eq str repr",
+    ("checker", "Fault"): "eq str",
+    ("programs", "Program"): "eq len",
+}
+
+
+def shown(function):
+    """The parameters of a function as they are written above."""
+    words = []
+    for name, parameter in inspect.signature(function).parameters.items():
+        stars = {parameter.VAR_POSITIONAL: "*", parameter.VAR_KEYWORD: "**"}.get(parameter.kind, "")
+        default = "" if parameter.default is parameter.empty else f"={parameter.default}"
+        words.append(f"{stars}{name}{default}")
+    return " ".join(words)
+
+
+def file_named(name):
+    return import_module(f"leastlog.{name}")
+
+
+class InterfaceTest(unittest.TestCase):
+    def test_functions(self):
+        for file, functions in FUNCTIONS.items():
+            for name, parameters in functions.items():
+                function = getattr(file_named(file), name)
+                self.assertEqual(function.__module__, f"leastlog.{file}")
+                self.assertEqual(shown(function), parameters, name)
+
+    def test_classes(self):
+        for (file, name), methods in CLASSES.items():
+            found = getattr(file_named(file), name)
+            self.assertEqual(found.__module__, f"leastlog.{file}")
+            self.assertEqual(shown(found), methods[""], name)
+            for method, parameters in methods.items():
+                if method:
+                    self.assertIn(method, vars(found), name)
+                    written = shown(getattr(found, method))
+                    is_bound = isinstance(vars(found)[method], (classmethod, staticmethod))
+                    self.assertEqual(written if is_bound else written.removeprefix("self").strip(), parameters)
+
+    def test_properties(self):
+        for (file, name), listed in PROPERTIES.items():
+            for word in listed.split():
+                self.assertIsInstance(vars(getattr(file_named(file), name))[word], property)
+
+    def test_special_methods(self):
+        for (file, name), listed in SPECIALS.items():
+            for word in listed.split():
+                self.assertIn(f"__{word}__", vars(getattr(file_named(file), name)))
+
+
+if __name__ == "__main__":
+    unittest.main()
