@@ -14,8 +14,8 @@ from leastlog.rows import CONSTANT, cleared, is_absurd, marks_of, row_of, symbol
 # The mark of the form whose value is to go up: the others have the marks from 0 on.
 AIM = -1
 
-# So many steps of a climb take what raises the form most.
-HASTY_STEPS = 100
+# After so many steps of a climb that raised nothing, care is taken not to go in a ring.
+MOST_IDLE_STEPS = 200
 
 
 class Tableau:
@@ -77,17 +77,17 @@ class Tableau:
 
         Returns the row as it is then, and the slack which raises the form without end, or None.
         """
-        steps = 0
+        idle_steps = 0
         while row.get(CONSTANT, 0) <= 0:
-            entering = self._entering(row, steps)
+            entering = self._entering(row, idle_steps)
             if entering is None:
                 return row, None
             leaving = self._first_to_end(entering)
             if leaving is None:
                 return row, entering
+            idle_steps = 0 if CONSTANT in self._basic[leaving] else idle_steps + 1
             self._exchange(leaving, entering)
             row = cleared(row, self._basic[entering], entering)
-            steps += 1
         return row, None
 
     def slacks(self):
@@ -116,13 +116,28 @@ class Tableau:
         """The amounts of the symbols at these slacks; symbols that it lacks may be anything, and count as 0."""
         return self._symbol_rows.pivot_values(slacks)
 
-    def _entering(self, row, steps):
-        """A slack that raises the form of the row, or None."""
+    def _entering(self, row, idle_steps):
+        """The slack that raises the form of the row, or None: the one that raises it most.
+
+        If none can, it is the one at which the form goes up fastest. After many steps that raised nothing
+        it is the one with the smallest mark, as this keeps the choices from going in a ring.
+        """
         found = [mark for mark in marks_of(row) if row[mark] > 0 and mark != AIM and mark not in self._fixed]
-        if not found or steps >= HASTY_STEPS:
-            # Taking the smallest marks keeps the choices from going in a ring.
-            return min(found, default=None)
-        return -max([(row[mark], -mark) for mark in found])[1]
+        if not found:
+            return None
+        if idle_steps > MOST_IDLE_STEPS:
+            return found[0]
+        best = max([(row[mark], -mark) for mark in found])
+        entering, top, bottom = -best[1], 0, 1
+        for mark in found:
+            leaving = self._first_to_end(mark)
+            if leaving is None:
+                return mark
+            limit = self._basic[leaving]
+            gain = -limit.get(CONSTANT, 0) * row[mark]
+            if gain * bottom > top * limit[mark]:
+                entering, top, bottom = mark, gain, limit[mark]
+        return entering
 
     def _without_basic(self, row):
         for mark in marks_of(row):
