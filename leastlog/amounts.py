@@ -84,8 +84,4 @@ def is_amount(value):
 
 def amount_of(value):
     """The Amount for which a value stands."""
-    if isinstance(value, Amount):
-        return value
-    if not is_whole(value):
-        raise InvalidAmount(value)
-    return Amount(value)
+    return value if isinstance(value, Amount) else Amount(value)

@@ -32,10 +32,6 @@ class Echelon:
         """The sorted list of the symbols for which the rows are solved."""
         return sorted(self._solved)
 
-    def row_at(self, pivot):
-        """The row that is solved for this symbol."""
-        return self._solved[pivot]
-
     def pivot_values(self, amounts):
         """The amounts of the pivots that follow from those of other symbols and of minus the forms of marks.
 

@@ -2,7 +2,7 @@
 
 from leastlog.amounts import Amount, amount_of, is_amount
 from leastlog.errors import InvalidForm, InvalidPoint, InvalidSymbol, InvalidTerms
-from leastlog.failures import UnknownSymbol, ZeroDivisor
+from leastlog.failures import UnknownSymbol
 from leastlog.kinds import DIGITS, LETTERS, has_only
 
 LONGEST_SYMBOL = 24
@@ -114,8 +114,6 @@ class Form:
 
     def over(self, divisor):
         """The form times 1 / divisor, for a divisor other than 0."""
-        if amount_of(divisor).sign == 0:
-            raise ZeroDivisor("a form is divided by 0")
         return self * Amount(1).over(divisor)
 
     def __eq__(self, other):

@@ -196,6 +196,7 @@ class StatementsTest(unittest.TestCase):
             (("repeat 1 as x", "  return a, n", "return a, n"), "return at p 0.a.0"), ((), "return at p 0"),
             (("let x = 1", "let y = 1"), "return at p 2"), (("if yes", "  let x = 1"), "return at p 1"),
             (("while yes up to 1", "  return", "return a, n"), "amount at p 0.a.0"),
+            (("while yes up to 1", "  return a, n", "return a, n"), "return at p 0.a.0"),
             (("repeat 1 as x", "  return n, a", "return a, n"), "sort at p 0.a.0"), (("return a, z", "return"), "variable at p 0"),
         ):
             self.assertEqual(fault_of(in_procedure(*lines, header=header)), expected, lines)

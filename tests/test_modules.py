@@ -37,6 +37,14 @@ def nested(deep):
     return expression
 
 
+def repeated(deep, word, *parts):
+    """A leaf within so many operations or reads of one kind."""
+    expression = ONE
+    for _ in range(deep):
+        expression = (word, *parts, expression)
+    return expression
+
+
 class ValidModulesTest(unittest.TestCase):
     def test_expressions(self):
         x = ("name", "x")
@@ -45,6 +53,7 @@ class ValidModulesTest(unittest.TestCase):
             ("read", "c", None), ("read", "c", x), ("read", "c", ("read", "c", ONE)), ("not", YES),
             *[(word, x, COIN) for word in "+ - * / same less is below and or".split()],
             nested(6), ("not", nested(5)), ("read", "c", nested(5)), ("+", nested(5), ("read", "c", nested(4))),
+            repeated(6, "not"), repeated(6, "read", "c"),
         ):
             module = with_expression(expression)
             check_same(self, module.procedures()[0][5], (("let", "x", expression),))
@@ -186,6 +195,7 @@ class WrongModulesTest(unittest.TestCase):
             ("not", ONE, ONE), ("not", None), ("+", ONE), ("+", ONE, ONE, ONE), ("+", ONE, 1), ("+", [*ONE], ONE),
             ("plus", ONE, ONE), (1, ONE), (True, ONE, ONE), (None, ONE), (["+"], ONE, ONE), nested(7),
             ("not", nested(6)), ("read", "c", nested(6)), ("+", ONE, ("read", "c", nested(5))), ("//", ONE, ONE),
+            repeated(7, "not"), repeated(7, "read", "c"),
         ):
             self.wrong_body(("let", "x", value))
             self.wrong_body(("return", (ONE, value)))

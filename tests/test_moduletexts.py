@@ -41,6 +41,8 @@ EXPRESSIONS = (
     (("and", ("name", "nota"), X), "(nota and x)"), (("+", ("count", -1), ("count", -2)), "(-1 + -2)"),
     *[((word, X, COIN), f"(x {word} -1/2)") for word in "+ - * / same less is below and or".split()],
     (("-", ("/", X, Y), ("*", X, ("-", Y, X))), "((x / y) - (x * (y - x)))"),
+    (("not", ("not", ("not", ("not", ("not", ("not", X)))))), "(not " * 6 + "x" + ")" * 6),
+    (("read", "c", ("read", "c", ("read", "c", ("read", "c", ("read", "c", ("read", "c", X)))))), "@c[" * 6 + "x" + "]" * 6),
 )
 STATEMENTS = (
     (("let", "x", COIN), "let x = -1/2"), (("set", "x", Y), "set x = y"), (("put", "c", None, X), "put c = x"),
@@ -268,7 +270,7 @@ class WrongTextsTest(unittest.TestCase):
             "( 1 + 1)", "(1 + 1 )", "(1 + 1", "1 + 1)", "1 + 1", "(1 + 1))", "(1 + 1 + 1)", "(1 plus 1)", "(1 // 1)",
             "(1 = 1)", "(1 not 1)", "(not)", "(not  x)", "(notx)", "(not x y)", "not x", "(x and)", "(x xor y)",
             "(1 SAME 1)", "((1 + 1)", "9" * 4001, "1/" + "9" * 4001, "9" * 5000 + "/1", nested(7), f"(not {nested(6)})",
-            f"@c[{nested(6)}]", "@c[" * 7 + "1" + "]" * 7, "(" * 30000, "(not " * 10000, "(1 + " * 10000, "@c[" * 15000,
+            f"@c[{nested(6)}]", "@c[" * 7 + "1" + "]" * 7, "(not " * 7 + "x" + ")" * 7, "(" * 30000, "(not " * 10000, "(1 + " * 10000, "@c[" * 15000,
             "(" * 20000 + "1" + ")" * 20000,
         ):
             self.wrong_line(f"let x = {text}")

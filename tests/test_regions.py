@@ -21,7 +21,7 @@ X, Y = Form.symbol("x"), Form.symbol("y")
 def random_form(random, symbols, constant):
     chosen = random.sample(symbols, random.randint(0, min(3, len(symbols))))
     weights = {symbol: Amount(random.randint(-3, 3), random.randint(1, 2)) for symbol in chosen}
-    return Form(random.randint(-constant, constant), weights)
+    return Form(Amount(random.randint(-constant, constant), random.randint(1, 2)), weights)
 
 
 class RegionCheck(unittest.TestCase):

@@ -47,7 +47,7 @@ def random_form(random, symbols="abcdef"):
     """A form with few and small weights."""
     chosen = random.sample(symbols, random.randint(0, 3))
     weights = {symbol: Amount(random.randint(-3, 3), random.randint(1, 3)) for symbol in chosen}
-    return Form(random.randint(-2, 2), weights)
+    return Form(Amount(random.randint(-2, 2), random.randint(1, 3)), weights)
 
 
 def random_forms(random, most):
