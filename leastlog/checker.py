@@ -12,9 +12,8 @@ class Fault:
         self.label = label
 
     def __eq__(self, other):
-        if not isinstance(other, Fault):
-            return False
-        return self.kind == other.kind and self.procedure == other.procedure and self.label == other.label
+        return (isinstance(other, Fault) and self.kind == other.kind and self.procedure == other.procedure
+                and self.label == other.label)
 
     def __str__(self):
         if self.procedure is None:

@@ -48,11 +48,9 @@ class Module:
         return sorted([*single, *[f"{self.name}.{name}.{number}" for name, length in rows for number in range(length)]])
 
     def __eq__(self, other):
-        if not isinstance(other, Module) or self.name != other.name:
-            return False
-        if self._imports != other._imports or self._cells != other._cells:
-            return False
-        return self._procedures == other._procedures and self._carries == other._carries
+        return (isinstance(other, Module) and self.name == other.name and self._imports == other._imports
+                and self._cells == other._cells and self._procedures == other._procedures
+                and self._carries == other._carries)
 
     def __str__(self):
         return str(module_text(self.name, self._imports, self._cells, self._carries, self._procedures))

@@ -3,7 +3,8 @@
 The SLACK of a form is minus its value, so it is at least 0. It has the mark of the form, so each row
 without symbols says that its slacks, each times its number, and its constant add up to 0. A tableau
 has such a row for each BASIC slack, in which that slack has a number above 0 and no other basic slack
-stands. The other slacks are free to be anything from 0 on, those of fixed forms are 0.
+stands. At the present basic slacks the others are 0, and no basic one is below 0. A slack goes up from 0
+by becoming basic; those of fixed forms never do.
 """
 
 from leastlog.amounts import Amount
@@ -37,7 +38,7 @@ class Tableau:
         return other
 
     def fix(self, form, mark):
-        """Enters a form that is 0; returns the row that cannot hold, or None. No free form is entered before."""
+        """Enters a form that is 0, ahead of all that are not; returns a row that cannot hold, or None."""
         self._fixed[mark] = True
         row = self._symbol_rows.enter(form, mark)
         return row if is_absurd(row) else None
@@ -106,15 +107,15 @@ class Tableau:
                 found[basic] = -total.over(row[basic])
         return found
 
+    def point(self, slacks):
+        """The amounts of the symbols at these slacks; symbols that it lacks may be anything, and count as 0."""
+        return self._symbol_rows.pivot_values(slacks)
+
     def _slacks_to_raise(self):
         """The slacks that are not basic, and do not lower a basic one that is 0."""
         flat_rows = [row for row in self._basic.values() if CONSTANT not in row]
         loose = [mark for mark in self._bounded if mark not in self._basic]
         return [mark for mark in loose if all([row.get(mark, 0) <= 0 for row in flat_rows])]
-
-    def point(self, slacks):
-        """The amounts of the symbols at these slacks; symbols that it lacks may be anything, and count as 0."""
-        return self._symbol_rows.pivot_values(slacks)
 
     def _entering(self, row, idle_steps):
         """The slack that raises the form of the row, or None: the one that raises it most.
