@@ -36,7 +36,7 @@ class Core:
                 total[symbol] = total[symbol] + point[symbol]
         return {symbol: total[symbol].over(len(self._spots)) for symbol in symbols}
 
-    def bound(self, form):
+    def bound_weights(self, form):
         """Weights by which the form is not above 0 in a core that is not empty, None if it is above 0 somewhere."""
         # A query must not depend on earlier ones, so it moves a clone.
         tableau = self._tableau.clone()
@@ -59,12 +59,12 @@ class Core:
         for mark, condition in enumerate(self._conditions):
             if isinstance(condition, Zero):
                 self._stuck[mark] = True
-                row = self._tableau.fix(condition.form, mark)
+                row = self._tableau.add_fixed(condition.form, mark)
                 if row is not None:
                     return row
         for mark, condition in enumerate(self._conditions):
             if isinstance(condition, (Negative, NonPositive)):
-                row = self._tableau.bound(condition.form, mark)
+                row = self._tableau.add_bound(condition.form, mark)
                 if row is not None:
                     return row
         return None
@@ -86,7 +86,7 @@ class Core:
 
     def _take_spot(self):
         slacks = self._tableau.slacks()
-        self._spots.append(self._tableau.point(slacks))
+        self._spots.append(self._tableau.point_at(slacks))
         return slacks
 
     def _bounded_marks(self):

@@ -71,7 +71,7 @@ class Frame:
         block = self._blocks[-1]
         return block.statements[block.position]
 
-    def enter(self, statements, letter, loop=None, turns=None):
+    def go_into(self, statements, letter, loop=None, turns=None):
         """Goes into a list of the statement; loop is the statement if it is one, turns the number of its turns."""
         prefix = f"{self._blocks[-1].label_text()}.{letter}."
         self._blocks.append(Block(statements, prefix, len(self._variables), loop, turns))

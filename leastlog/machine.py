@@ -37,7 +37,7 @@ class Machine:
         other._result = self._result
         return other
 
-    def begin(self, text, arguments):
+    def start(self, text, arguments):
         """Enters a procedure and comes to its first stop."""
         self._enter(text, arguments)
         self._come_to_stop()
@@ -149,12 +149,12 @@ class Machine:
         frame = self._frames[-1]
         kind, worth = statement[0], self._value(statement[1])
         if kind == "if":
-            frame.enter(statement[2] if worth else statement[3], "a" if worth else "b")
+            frame.go_into(statement[2] if worth else statement[3], "a" if worth else "b")
         elif kind == "while" and worth:
-            frame.enter(statement[3], "a", statement)
+            frame.go_into(statement[3], "a", statement)
         # The turns of an empty list are passed by all at once, however many they are.
         elif kind == "repeat" and worth > 0 and statement[3]:
-            frame.enter(statement[3], "a", statement, worth)
+            frame.go_into(statement[3], "a", statement, worth)
             frame.bind(statement[2], 0)
         else:
             frame.pass_by()

@@ -26,7 +26,7 @@ def read_module(text):
     reader = ModuleReader()
     for index, line in enumerate(lines):
         following = lines[index + 1] if index + 1 < len(lines) else unended
-        reader.take(line, index + 1, following)
+        reader.take_line(line, index + 1, following)
     if unended or not lines:
         raise InvalidText(len(lines) + 1)
     return reader.finished()
@@ -46,7 +46,7 @@ class ModuleReader:
         # The lists of statements to which lines may be added, the outermost one first.
         self._open = []
 
-    def take(self, text, number, following):
+    def take_line(self, text, number, following):
         """Takes a line, in front of the line that follows."""
         words = text.lstrip(" ")
         spaces = len(text) - len(words)

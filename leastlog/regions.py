@@ -68,7 +68,7 @@ class Region:
         if index is None:
             return None
         form = self._conditions[index].form
-        return "zero", index, core.bound(form), core.bound(-form)
+        return "zero", index, core.bound_weights(form), core.bound_weights(-form)
 
     def bound_certificate(self, form):
         """Weights by which the form is not above 0 in the core; None if it is above 0 somewhere there."""
@@ -76,7 +76,7 @@ class Region:
         core = self._found_core()
         if core.clash() is not None:
             raise Impossible("the core is empty")
-        return core.bound(form)
+        return core.bound_weights(form)
 
     def two_points(self, forms, form):
         """Two inner points at which the forms have the same values, but not the form; None if there are none."""

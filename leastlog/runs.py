@@ -19,7 +19,7 @@ class Run:
         self._arguments = list(arguments)
         self._cells = store_of(program, cells)
         self._machine = Machine(program, self._cells)
-        self._machine.begin(procedure, self._arguments)
+        self._machine.start(procedure, self._arguments)
 
     @classmethod
     def traced(cls, program, procedure, arguments, cells=None):

@@ -37,13 +37,13 @@ class Tableau:
         other._fixed = self._fixed
         return other
 
-    def fix(self, form, mark):
+    def add_fixed(self, form, mark):
         """Enters a form that is 0, ahead of all that are not; returns a row that cannot hold, or None."""
         self._fixed[mark] = True
         row = self._symbol_rows.enter(form, mark)
         return row if is_absurd(row) else None
 
-    def bound(self, form, mark):
+    def add_bound(self, form, mark):
         """Enters a form that is not above 0; returns a row that cannot hold, or None."""
         self._bounded[mark] = True
         row = self._symbol_rows.enter(form, mark)
@@ -107,7 +107,7 @@ class Tableau:
                 found[basic] = -total.over(row[basic])
         return found
 
-    def point(self, slacks):
+    def point_at(self, slacks):
         """The amounts of the symbols at these slacks; symbols that it lacks may be anything, and count as 0."""
         return self._symbol_rows.pivot_values(slacks)
 
