@@ -16,7 +16,10 @@ from leastlog.rows import CONSTANT, cleared, is_absurd, marks_of, row_of, symbol
 AIM = -1
 
 # After so many steps of a climb that raised nothing, care is taken not to go in a ring.
-MOST_IDLE_STEPS = 200
+MOST_IDLE_STEPS = 400
+
+# The motions of slacks are compared in whole bits, so many for 1.
+BITS = 1024
 
 
 class Tableau:
@@ -118,27 +121,40 @@ class Tableau:
         return [mark for mark in loose if all([row.get(mark, 0) <= 0 for row in flat_rows])]
 
     def _entering(self, row, idle_steps):
-        """The slack that raises the form of the row, or None: the one that raises it most.
-
-        If none can, it is the one at which the form goes up fastest. After many steps that raised nothing
-        it is the one with the smallest mark, as this keeps the choices from going in a ring.
-        """
+        """The slack that is to raise the form of the row, or None if none can."""
         found = [mark for mark in marks_of(row) if row[mark] > 0 and mark != AIM and mark not in self._fixed]
         if not found:
             return None
         if idle_steps > MOST_IDLE_STEPS:
+            # Taking the smallest marks keeps the choices from going in a ring.
             return found[0]
-        best = max([(row[mark], -mark) for mark in found])
-        entering, top, bottom = -best[1], 0, 1
-        for mark in found:
+        best = self._most_raising(row, found)
+        return self._steepest(row, found) if best is None else best
+
+    def _most_raising(self, row, marks):
+        """The slack that raises the form most before a basic one comes to 0; None if none raises it at all."""
+        best, top, bottom = None, 0, 1
+        for mark in marks:
             leaving = self._first_to_end(mark)
             if leaving is None:
                 return mark
             limit = self._basic[leaving]
             gain = -limit.get(CONSTANT, 0) * row[mark]
             if gain * bottom > top * limit[mark]:
-                entering, top, bottom = mark, gain, limit[mark]
-        return entering
+                best, top, bottom = mark, gain, limit[mark]
+        return best
+
+    def _steepest(self, row, marks):
+        """The slack with which the form goes up most for each bit that the basic slacks at 0 move."""
+        best, top, bottom = None, 0, 1
+        for mark in marks:
+            motion = BITS
+            for basic, other in self._basic.items():
+                if CONSTANT not in other:
+                    motion += abs(other.get(mark, 0)) * BITS // other[basic]
+            if row[mark] * bottom > top * motion:
+                best, top, bottom = mark, row[mark], motion
+        return best
 
     def _without_basic(self, row):
         for mark in marks_of(row):

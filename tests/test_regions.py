@@ -147,6 +147,21 @@ class RandomRegionsTest(RegionCheck):
                 self.check_region(conditions, [Form.symbol("s0")], Form.symbol("s1"))
                 self.check_region([*conditions, Negative(-conditions[-1].form), Negative(conditions[-1].form)], [], X)
 
+    def test_large_regions_that_are_one_point(self):
+        random = Random(46)
+        symbols = [f"s{number}" for number in range(45)]
+        for spread in (3, 8):
+            middle = {symbol: random.randint(-5, 5) for symbol in symbols}
+            conditions = []
+            for _ in range(140):
+                weights = {symbol: random.randint(-5, 5) for symbol in random.sample(symbols, spread)}
+                value = sum(weights[symbol] * middle[symbol] for symbol in weights)
+                conditions.append(NonPositive(Form(-value, weights)))
+            conditions += [NonPositive(Form(middle[symbol], {symbol: -1})) for symbol in symbols[:9]]
+            self.check_region(conditions, [Form.symbol("s0")], Form.symbol("s1"))
+            self.check_region([*conditions, Negative(conditions[3].form)], [], X)
+            self.check_region([*conditions, NonZero(conditions[3].form)], [], X)
+
     def test_numbers_of_many_digits(self):
         random = Random(30)
         symbols = [f"s{number}" for number in range(8)]
