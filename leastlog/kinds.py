@@ -23,3 +23,14 @@ def has_only(text, characters):
 def is_name(value):
     """Whether a value is a NAME."""
     return isinstance(value, str) and 1 <= len(value) <= LONGEST_NAME and has_only(value, LETTERS)
+
+
+def alike(one, other):
+    """Whether two values are equal, where True is not equal to 1, also inside."""
+    if isinstance(one, bool) or isinstance(other, bool):
+        return isinstance(one, bool) and isinstance(other, bool) and one == other
+    if isinstance(one, dict) and isinstance(other, dict):
+        return len(one) == len(other) and all([key in other and alike(one[key], other[key]) for key in one])
+    if is_list(one) and isinstance(one, list) == isinstance(other, list) and is_list(other):
+        return len(one) == len(other) and all([alike(part, by) for part, by in zip(one, other)])
+    return one == other

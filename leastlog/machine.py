@@ -1,5 +1,6 @@
 """The machine that executes procedures, from stop to stop."""
 
+from leastlog.forms import Form
 from leastlog.frames import Frame
 from leastlog.grammar import LONGEST_ROW
 
@@ -14,24 +15,23 @@ class RunFailed(Exception):
 class Machine:
     """A run under way: its frames, the cells that it has written, and its events so far."""
 
-    def __init__(self, program, store):
+    def __init__(self, program, store, arithmetic):
         self._program = program
         self._store = store
+        self._arithmetic = arithmetic
         self._written = {}
         self._frames = []
         self._events = []
-        self._truths = []
         self._seen = {}
         self._stops = 0
         self._result = None
 
     def clone(self):
         """An independent machine at the same place."""
-        other = Machine(self._program, self._store)
+        other = Machine(self._program, self._store, self._arithmetic.clone())
         other._written = dict(self._written)
         other._frames = [frame.clone() for frame in self._frames]
         other._events = list(self._events)
-        other._truths = list(self._truths)
         other._seen = dict(self._seen)
         other._stops = self._stops
         other._result = self._result
@@ -73,9 +73,9 @@ class Machine:
         """The list of the events so far, with dicts of its own."""
         return [own_event(event) for event in self._events]
 
-    def truths(self):
-        """The list of the truths of the tests so far."""
-        return list(self._truths)
+    def arithmetic(self):
+        """What its amounts are, and the tests so far."""
+        return self._arithmetic
 
     def seen(self):
         """The sorted list of the cells read from the store, and of the code cells."""
@@ -199,7 +199,9 @@ class Machine:
         if kind == "read":
             number = None if expression[2] is None else self._value(expression[2])
             return self._read(self._cell_at(expression[1], number))
-        if kind in ("amount", "count", "truth"):
+        if kind == "amount":
+            return self._arithmetic.made(expression[1])
+        if kind in ("count", "truth"):
             return expression[1]
         operands = [self._value(part) for part in expression[1:]]
         if kind in ("same", "less"):
@@ -207,21 +209,13 @@ class Machine:
         return operated(kind, operands)
 
     def _test(self, word, first, second):
-        truth = first == second if word == "same" else first.below(second)
-        self._truths.append(truth)
+        truth = self._arithmetic.decide(word, first, second)
         self._events.append(("test", truth))
         return truth
 
     def _cell_at(self, name, number):
         """The cell text of a cell of the module of the innermost frame."""
-        module = self._frames[-1].module
-        if number is None:
-            return f"{module}.{name}"
-        # A count may have too many digits for a text.
-        cell = f"{module}.{name}.{number}" if 0 <= number < LONGEST_ROW else None
-        if cell not in self._store:
-            raise RunFailed("row")
-        return cell
+        return cell_numbered(f"{self._frames[-1].module}.{name}", number, self._store)
 
     def _read(self, cell):
         if cell in self._written:
@@ -231,6 +225,17 @@ class Machine:
             self._seen[cell] = True
         self._events.append(("read", cell, amount))
         return amount
+
+
+def cell_numbered(name, number, store):
+    """The cell text of a single cell (number is None) or of a cell of a row, for a store that has all of them."""
+    if number is None:
+        return name
+    # A count may have too many digits for a text.
+    cell = f"{name}.{number}" if 0 <= number < LONGEST_ROW else None
+    if cell not in store:
+        raise RunFailed("row")
+    return cell
 
 
 def operated(kind, operands):
@@ -250,11 +255,13 @@ def operated(kind, operands):
         return first + second
     if kind == "-":
         return first - second
+    # In a run on forms a literal is a constant form.
+    factor = second.constant_part if isinstance(second, Form) else second
     if kind == "*":
-        return first * second
-    if second == 0:
+        return first * factor
+    if factor == 0:
         raise RunFailed("zero")
-    return first.over(second)
+    return first.over(factor)
 
 
 def own_event(event):

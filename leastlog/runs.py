@@ -1,8 +1,10 @@
 """Runs: procedures of a program that are executed on the cells of a store."""
 
 from leastlog.amounts import Amount
+from leastlog.arithmetic import PlainArithmetic
 from leastlog.errors import InvalidArguments, InvalidCells, Over
 from leastlog.failures import UnknownProcedure
+from leastlog.forms import Form
 from leastlog.kinds import is_list, is_whole
 from leastlog.machine import Machine
 
@@ -17,8 +19,8 @@ class Run:
         self._program = program
         self._procedure = procedure
         self._arguments = list(arguments)
-        self._cells = store_of(program, cells)
-        self._machine = Machine(program, self._cells)
+        self._cells = store_of(program, cells, Amount(0))
+        self._machine = Machine(program, self._cells, PlainArithmetic())
         self._machine.start(procedure, self._arguments)
 
     @classmethod
@@ -58,7 +60,7 @@ class Run:
 
     def path(self):
         """The list of the truths of the tests so far."""
-        return self._machine.truths()
+        return self._machine.arithmetic().truths()
 
     def reads(self):
         """The sorted list of the cells read from the store so far, code cells included."""
@@ -99,41 +101,42 @@ def check_exported(program, text):
         raise UnknownProcedure(text)
 
 
-def check_arguments(program, text, arguments):
+def check_arguments(program, text, arguments, on_forms=False):
     """Raises InvalidArguments for any value that is no list of arguments of the procedure."""
     parameters = program.procedure_at(text)[3]
     if not is_list(arguments) or len(arguments) != len(parameters):
         raise InvalidArguments(None)
     for position, (_, sort) in enumerate(parameters):
-        if not has_sort(arguments[position], sort):
+        if not has_sort(arguments[position], sort, on_forms):
             raise InvalidArguments(position)
 
 
-def has_sort(value, sort):
-    """Whether any value is of this sort."""
+def has_sort(value, sort, on_forms):
+    """Whether any value is of this sort, in a plain run or in one on forms."""
     if sort == "amount":
-        return isinstance(value, Amount)
+        return is_run_amount(value, on_forms)
     return is_whole(value) if sort == "count" else isinstance(value, bool)
 
 
-def check_cells(program, cells):
-    """Raises InvalidCells for any value that is neither None nor a dict from cell texts to Amounts."""
+def is_run_amount(value, on_forms):
+    """Whether any value is an amount in a plain run, or in one on forms."""
+    return isinstance(value, Form) if on_forms else isinstance(value, Amount)
+
+
+def check_cells(program, cells, on_forms=False):
+    """Raises InvalidCells for any value that is neither None nor a dict from cell texts to amounts of the run."""
     if cells is None:
         return
     if not isinstance(cells, dict):
         raise InvalidCells(None)
     known = {text: True for text in program.cells()}
-    wrong = [key for key in cells if not is_cell_amount(key, cells[key], known)]
-    if wrong:
-        raise InvalidCells(min([key for key in wrong if isinstance(key, str)], default=None))
+    right = [key for key in cells if isinstance(key, str) and key in known and is_run_amount(cells[key], on_forms)]
+    if len(right) < len(cells):
+        wrong = [key for key in cells if isinstance(key, str) and key not in right]
+        raise InvalidCells(min(wrong, default=None))
 
 
-def is_cell_amount(key, value, known):
-    """Whether the key is a known cell text, and the value an Amount."""
-    return isinstance(key, str) and key in known and isinstance(value, Amount)
-
-
-def store_of(program, cells):
-    """A dict from all cells of the program to their amounts, 0 for those that are not given."""
+def store_of(program, cells, zero):
+    """A dict from all cells of the program to their amounts, zero for those that are not given."""
     given = {} if cells is None else cells
-    return {text: given.get(text, Amount(0)) for text in program.cells()}
+    return {text: given.get(text, zero) for text in program.cells()}

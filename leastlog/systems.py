@@ -11,6 +11,40 @@ from leastlog.rows import CONSTANT, is_absurd, row_of, share, symbols_of
 ASKED = -1
 
 
+class Telling:
+    """Forms that tell others."""
+
+    def __init__(self, forms):
+        self._echelon = Echelon()
+        self._size = 0
+        self._rank = 0
+        for form in forms:
+            self.adds(form)
+
+    def adds(self, form):
+        """Adds a form; returns whether it was not told."""
+        row = self._echelon.enter(form, self._size)
+        self._size += 1
+        is_new = len(symbols_of(row)) > 0
+        self._rank += 1 if is_new else 0
+        return is_new
+
+    def rank(self):
+        """How many of the forms tell all of them."""
+        return self._rank
+
+    def tells(self, form):
+        """Whether a form is told by the forms."""
+        return not symbols_of(self._echelon.reduced(row_of(form)))
+
+    def weights_of(self, form):
+        """The constant and the weights of the forms by which a form is told; None if it is not told."""
+        row = self._echelon.reduced(row_of(form, ASKED))
+        if symbols_of(row):
+            return None
+        return share(row, CONSTANT, ASKED), [-share(row, mark, ASKED) for mark in range(self._size)]
+
+
 def form_rank(forms, flat=()):
     """The greatest number of forms of which none is told by the others on the flat."""
     check_forms(forms)
@@ -41,14 +75,11 @@ def combination(form, forms, flat=()):
     check_form(form)
     check_forms(forms)
     check_flat(flat)
-    echelon = Echelon()
-    for mark, part in enumerate([*forms, *flat]):
-        echelon.enter(part, mark)
-    row = echelon.reduced(row_of(form, ASKED))
-    if symbols_of(row):
+    told = Telling([*forms, *flat]).weights_of(form)
+    if told is None:
         return None
-    weights = [-share(row, mark, ASKED) for mark in range(len(forms) + len(flat))]
-    return share(row, CONSTANT, ASKED), weights[:len(forms)], weights[len(forms):]
+    constant, weights = told
+    return constant, weights[:len(forms)], weights[len(forms):]
 
 
 def direction(form, forms, flat=()):

@@ -91,6 +91,7 @@ class Package:
         for name, node in self.classes.items():
             own = {part.name for part in node.body if isinstance(part, ast.FunctionDef)}
             found += [f"package L18 method and attribute: {name}.{both}" for both in own & self.attributes[name]]
+        found += [f"package L18 method and attribute: {name}" for name in plain & stored]
         taken = {name for name in plain if name in VALUE_ATTRIBUTES and name not in ALLOWED_METHODS and name not in DUNDERS}
         found += [f"package L26 method: {name}" for name in taken]
         return found + self.ring_complaints() + self.purity_complaints()
@@ -197,8 +198,13 @@ class FileCheck:
                 continue
             imports_over = True
             if isinstance(node, ast.Assign) and len(node.targets) == 1 and isinstance(node.targets[0], ast.Name):
+                functions = [part for part in ast.walk(node.value) if isinstance(part, ast.Name)]
+                allowed = self.package.functions.keys() | {"True", "False", "None"}
+                plain = ast.unparse(node.value)
+                for part in functions:
+                    plain = re.sub(rf"\b{part.id}\b(?=[,}}])", "0", plain) if part.id in allowed else plain
                 try:
-                    ast.literal_eval(node.value)
+                    ast.literal_eval(plain)
                 except ValueError:
                     self.complain(node, "L3 value")
             elif not isinstance(node, (ast.FunctionDef, ast.ClassDef)):
@@ -280,12 +286,25 @@ class FileCheck:
                 self.complain(node, f"L15 name {name}")
 
     def check_name(self, node):
-        if isinstance(node.ctx, ast.Load) and hasattr(builtins, node.id):
+        if isinstance(node.ctx, ast.Load) and node.id == "super":
+            self.check_super(node)
+        elif isinstance(node.ctx, ast.Load) and hasattr(builtins, node.id):
             decorator = node.id in ("property", "classmethod", "staticmethod")
             if node.id not in ALLOWED_BUILTINS and not decorator:
                 self.complain(node, f"L8 {node.id}")
         if node.id == "_" and isinstance(node.ctx, ast.Load):
             self.complain(node, "L12 _ is read")
+
+    def check_super(self, node):
+        """super() is called at once, and so is a plain method of it, directly in a method."""
+        made, read = node.parent, node.parent.parent
+        right = isinstance(made, ast.Call) and not made.args and isinstance(read, ast.Attribute)
+        right = right and isinstance(read.parent, ast.Call) and read.parent.func is read and read.attr not in DUNDERS
+        above = read
+        while not isinstance(above, (ast.FunctionDef, ast.ListComp, ast.DictComp)):
+            above = above.parent
+        if not right or not isinstance(above, ast.FunctionDef) or not isinstance(above.parent, ast.ClassDef):
+            self.complain(node, "L5 super")
 
     def check_attribute(self, node):
         if not isinstance(node.ctx, ast.Load) and (node.attr in BANNED_ATTRIBUTES or node.attr in BANNED_NAMES):
@@ -298,7 +317,14 @@ class FileCheck:
             self.complain(node, f"L25 method {node.attr}")
         if not called and node.attr not in stored | values | {"__class__", "__name__"}:
             self.complain(node, f"L18 attribute {node.attr}")
-        if called and getattr(node.value, "id", "") in self.package.classes:
+        if called and node.attr == "__init__":
+            function = node.parent
+            while not isinstance(function, ast.FunctionDef):
+                function = function.parent
+            bases = [getattr(base, "id", "") for base in function.parent.bases]
+            if function.name != "__init__" or getattr(node.value, "id", "") not in bases:
+                self.complain(node, "L28 __init__")
+        elif called and getattr(node.value, "id", "") in self.package.classes:
             static = [row for row in self.package.methods.get(node.attr, []) if row[2].decorator_list]
             if not static:
                 self.complain(node, "L18 method read off a class")

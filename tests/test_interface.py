@@ -12,6 +12,12 @@ FUNCTIONS = {
     "moduletexts": {"read_module": "text"},
     "checker": {"interface_of": "module", "first_fault": "module interfaces"},
     "programs": {"carried": "old new"},
+    "formruns": {"symbol_of": "run position"},
+    "translating": {"translate": "program procedure", "book_of": "program"},
+    "coderuns": {"run_code": "program book procedure arguments cells=None *path=None", "parting": "trace other"},
+    "passes": {name: "code" for name in ("spread", "fold", "share_equal", "drop_dead", "least_asked")},
+    "loop_passes": {"hoist": "code"},
+    "inlining": {"inline": "code book", "optimized": "code *names *book=None", "optimized_book": "program *names"},
 }
 CONDITION = {"": "form", "holds_at": "point", "denied": "", "replaced": "forms"}
 CLASSES = {
@@ -34,12 +40,17 @@ CLASSES = {
     ("runs", "Run"): {"": "program procedure arguments cells=None", "traced": "program procedure arguments cells=None",
                       "variables": "", "trace": "", "path": "", "reads": "", "writes": "", "step": "", "finish": "", "walk": "",
                       "clone": ""},
+    ("formruns", "FormRun"): {"": "program procedure arguments path cells=None",
+                              "traced": "program procedure arguments path cells=None", "variables": "", "trace": "", "path": "",
+                              "reads": "", "writes": "", "step": "", "finish": "", "walk": "", "clone": "", "conditions": ""},
+    ("codes", "Code"): {"": "procedure parameters rows", "asked": "path", "form_over_leaves": "value", "renumbered": ""},
 }
 PROPERTIES = {
     ("amounts", "Amount"): "top bottom sign",
     ("forms", "Form"): "constant_part is_constant linear_part",
     ("conditions", "Condition"): "form",
     ("runs", "Run"): "place is_over outcome stop_count",
+    ("formruns", "FormRun"): "place is_over outcome stop_count",
 }
 SPECIALS = {
     ("amounts", "Amount"): "add sub mul neg eq str repr",
@@ -48,6 +59,7 @@ SPECIALS = {
     ("modules", "Module"): "eq str repr",
     ("checker", "Fault"): "eq str",
     ("programs", "Program"): "eq len",
+    ("codes", "Code"): "eq len repr",
 }
 
 
@@ -55,7 +67,7 @@ def shown(function):
     """The parameters of a function as they are written above."""
     words = []
     for name, parameter in inspect.signature(function).parameters.items():
-        stars = {parameter.VAR_POSITIONAL: "*", parameter.VAR_KEYWORD: "**"}.get(parameter.kind, "")
+        stars = {parameter.VAR_POSITIONAL: "*", parameter.VAR_KEYWORD: "**", parameter.KEYWORD_ONLY: "*"}.get(parameter.kind, "")
         default = "" if parameter.default is parameter.empty else f"={parameter.default}"
         words.append(f"{stars}{name}{default}")
     return " ".join(words)
