@@ -21,34 +21,46 @@ class Asking(Rewriter):
         tolds = [told for frame in row[2] for _, told in frame if told[0] == "form"]
         asked = sorted({value: True for told in tolds for value in asked_by(told)})
         shown = [form_of_sum(told[1], told[2], self._forms) for told in tolds]
-        if Telling(shown).rank() == len(asked):
-            return [row]
-        rows, values = self._base(tolds, shown, asked)
-        telling = Telling([self._forms[value] for value in values])
-        frames = [tuple([(name, self._told(told, telling, values)) for name, told in frame]) for frame in row[2]]
-        return [*rows, ("stop", row[1], tuple(frames))]
-
-    def _base(self, tolds, shown, asked):
-        """Values that tell all shown amounts, none told by the others, and the rows for those of them that are new."""
         span = Telling(shown)
-        base = Telling([])
-        values = []
+        if span.rank() == len(asked):
+            return [row]
+        rows, values, base = self._base(tolds, shown, asked, span)
+        told_anew = [told_by(base.weights_of(form), values) for form in shown]
+        return [*rows, ("stop", row[1], with_tolds(row[2], told_anew))]
+
+    def _base(self, tolds, shown, asked, span):
+        """Rows for new values, values that tell all that is shown, none told by the others, and their forms."""
+        rows, values, base = [], [], Telling([])
         for value in asked:
             form = self._forms[value]
-            if span.tells(form) and base.adds(form):
+            if span.tells(form) and not base.tells(form):
+                base.adds(form)
                 values.append(value)
-        rows = []
         for told, form in zip(tolds, shown):
-            if base.adds(form):
-                rows.append(("form", self._unused, told[1], told[2]))
-                self._forms[self._unused] = form
+            if not base.tells(form):
+                base.adds(form)
                 values.append(self._unused)
-                self._unused = self._unused + 1
-        return rows, values
+                rows.append(self._new_row(told, form))
+        return rows, values, base
 
-    def _told(self, told, telling, values):
-        """The told of the same amount by a base."""
-        if told[0] != "form":
-            return told
-        constant, weights = telling.weights_of(form_of_sum(told[1], told[2], self._forms))
-        return "form", constant, merged(list(zip(values, weights)))
+    def _new_row(self, told, form):
+        """A form row for what is told, which has this form over leaves."""
+        value = self._unused
+        self._forms[value] = form
+        self._unused = value + 1
+        return "form", value, told[1], told[2]
+
+
+def told_by(combined, values):
+    """The told of a constant plus weights times values."""
+    constant, weights = combined
+    return "form", constant, merged(list(zip(values, weights)))
+
+
+def with_tolds(shown, tolds):
+    """What is shown with other tolds of the amounts, in sequence."""
+    found = []
+    left = list(reversed(tolds))
+    for frame in shown:
+        found.append(tuple([(name, left.pop() if told[0] == "form" else told) for name, told in frame]))
+    return tuple(found)

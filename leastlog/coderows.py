@@ -158,3 +158,12 @@ def merged(pairs):
     for value, weight in pairs:
         weights[value] = weights[value] + weight if value in weights else weight
     return tuple([(value, weights[value]) for value in sorted(weights) if weights[value].sign])
+
+
+def behind_list(row, number):
+    """The values behind a list of a row; of the head of a while its truth and the parameters."""
+    if row[0] == "if":
+        return row[3] if number == 0 else row[5]
+    if row[0] == "repeat":
+        return row[6]
+    return (row[5], *row[2]) if number == 0 else row[7]

@@ -148,7 +148,11 @@ def forms_over_leaves(code):
 
 def form_of_sum(constant, parts, forms):
     """The form that is a constant plus weights times the forms of amounts."""
-    total = Form(constant)
+    total = constant
+    weights = {}
     for value, weight in parts:
-        total = total + forms[value] * weight
-    return total
+        total = total + forms[value].constant_part * weight
+        for symbol, share in forms[value].terms():
+            more = share * weight
+            weights[symbol] = weights[symbol] + more if symbol in weights else more
+    return Form(total, weights)

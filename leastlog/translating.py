@@ -38,7 +38,7 @@ class Translation:
         for variable, sort in self._procedure[3]:
             scope[variable] = self._new_value(sort)
         parameters = tuple([(value, self._sorts[value]) for value in scope.values()])
-        return Code(self._text, parameters, self._rows(self._procedure[5], "", scope, 0))
+        return Code(self._text, parameters, self._translated(self._procedure[5], "", scope, 0))
 
     def _new_value(self, sort):
         self._sorts.append(sort)
@@ -48,7 +48,7 @@ class Translation:
         """New values of the same sorts."""
         return tuple([self._new_value(self._sorts[value]) for value in values])
 
-    def _rows(self, statements, prefix, scope, depth):
+    def _translated(self, statements, prefix, scope, depth):
         """The rows of a list of statements, which is in so many loops; changes the scope."""
         rows = []
         for position, statement in enumerate(statements):
@@ -100,7 +100,7 @@ class Translation:
         lists = []
         for letter, statements in (("a", first), ("b", second)):
             inner = dict(scope)
-            lists.append(self._rows(statements, f"{label}.{letter}.", inner, depth))
+            lists.append(self._translated(statements, f"{label}.{letter}.", inner, depth))
             lists.append(values_in(inner, changed))
         joined = self._new_values(values_in(scope, changed))
         rows.append(("if", truth, *lists, joined))
@@ -115,7 +115,7 @@ class Translation:
         parameters = self._new_values(begun)
         inner = {**scope, variable: turn}
         bind(inner, changed, parameters)
-        body = self._rows(statements, f"{label}.a.", inner, depth + 1)
+        body = self._translated(statements, f"{label}.a.", inner, depth + 1)
         joined = self._new_values(begun)
         rows.append(("repeat", number, turn, parameters, begun, body, values_in(inner, changed), joined))
         bind(scope, changed, joined)
@@ -129,7 +129,7 @@ class Translation:
         bind(inner, changed, parameters)
         head = []
         truth = self._value(test, inner, head)
-        body = self._rows(statements, f"{label}.a.", inner, depth + 1)
+        body = self._translated(statements, f"{label}.a.", inner, depth + 1)
         joined = self._new_values(begun)
         behind = values_in(inner, changed)
         rows.append(("while", most, parameters, begun, tuple(head), truth, body, behind, joined))

@@ -17,6 +17,10 @@ FUNCTIONS = {
     "coderuns": {"run_code": "program book procedure arguments cells=None *path=None", "parting": "trace other"},
     "passes": {name: "code" for name in ("spread", "fold", "share_equal", "drop_dead", "least_asked")},
     "loop_passes": {"hoist": "code"},
+    "stretches": {"stretch_of": "code path=()"},
+    "keeps": {"known": "stretch keeps stop", "missing": "stretch keeps"},
+    "cuts": {"least_keeps": "stretch", "certificate": "stretch", "is_certificate": "stretch value"},
+    "orders": {"named_pairs": "history", "keeps": "history order", "exchanged": "history run other", "difference": "history order"},
     "inlining": {"inline": "code book", "optimized": "code *names *book=None", "optimized_book": "program *names"},
 }
 CONDITION = {"": "form", "holds_at": "point", "denied": "", "replaced": "forms"}
@@ -44,6 +48,9 @@ CLASSES = {
                               "traced": "program procedure arguments path cells=None", "variables": "", "trace": "", "path": "",
                               "reads": "", "writes": "", "step": "", "finish": "", "walk": "", "clone": "", "conditions": ""},
     ("codes", "Code"): {"": "procedure parameters rows", "asked": "path", "form_over_leaves": "value", "renumbered": ""},
+    ("stretches", "Stretch"): {"": "rows out=()", "all_values": "", "stops": "", "operands": "value", "asked": "stop", "live": "stop"},
+    ("framing", "FramePlan"): {"": "stretch keeps", "least": "stretch", "held": "stop", "slot_of": "value stop",
+                               "recipe": "value stop", "walk": "leaf compute", "tell": "stop contents compute"},
 }
 PROPERTIES = {
     ("amounts", "Amount"): "top bottom sign",
@@ -51,6 +58,8 @@ PROPERTIES = {
     ("conditions", "Condition"): "form",
     ("runs", "Run"): "place is_over outcome stop_count",
     ("formruns", "FormRun"): "place is_over outcome stop_count",
+    ("stretches", "Stretch"): "row_list out_list",
+    ("framing", "FramePlan"): "slots",
 }
 SPECIALS = {
     ("amounts", "Amount"): "add sub mul neg eq str repr",
@@ -60,6 +69,7 @@ SPECIALS = {
     ("checker", "Fault"): "eq str",
     ("programs", "Program"): "eq len",
     ("codes", "Code"): "eq len repr",
+    ("stretches", "Stretch"): "eq len",
 }
 
 
