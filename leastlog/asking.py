@@ -40,15 +40,9 @@ class Asking(Rewriter):
             if not base.tells(form):
                 base.adds(form)
                 values.append(self._unused)
-                rows.append(self._new_row(told, form))
+                rows.append(("form", self._unused, told[1], told[2]))
+                self._unused = self._unused + 1
         return rows, values, base
-
-    def _new_row(self, told, form):
-        """A form row for what is told, which has this form over leaves."""
-        value = self._unused
-        self._forms[value] = form
-        self._unused = value + 1
-        return "form", value, told[1], told[2]
 
 
 def told_by(combined, values):

@@ -1,11 +1,12 @@
 """Codes of procedures, as rows that set values."""
 
-from leastlog.coderows import all_rows, entered_by, lists_of, loop_parts, renamed_rows, set_by, used_by
+from leastlog.coderows import LOOPS, all_rows, entered_by, lists_of, loop_parts, renamed_rows, set_by, used_by
 from leastlog.failures import UnknownPath, UnknownValue
 from leastlog.forms import Form
 from leastlog.kinds import alike, is_whole
 
-TRUTH_WORDS = ("is", "below", "and", "or", "not")
+# The rows that set an amount.
+AMOUNT_ROWS = ("form", "scale", "share", "read")
 
 
 class Code:
@@ -85,10 +86,10 @@ def values_set_in(rows):
     """The list of all values that rows set, in the sequence in which they set them."""
     found = []
     for row in rows:
-        found.extend(list(entered_by(row)))
+        found.extend(entered_by(row))
         for inner in lists_of(row):
             found.extend(values_set_in(inner))
-        found.extend(list(set_by(row)))
+        found.extend(set_by(row))
     return found
 
 
@@ -97,53 +98,38 @@ def unused_value(code):
     return 1 + max([value for value, _ in code.parameters] + values_set_in(code.rows), default=-1)
 
 
-def sorts_of(code):
-    """The dict from all values of the code to their sorts."""
-    sorts = {value: sort for value, sort in code.parameters}
-    add_sorts(code.rows, sorts)
-    return sorts
-
-
-def add_sorts(rows, sorts):
-    """Adds the sorts of the values that rows set."""
-    for row in rows:
-        kind = row[0]
-        if kind in ("repeat", "while"):
-            parameters, begun, _, joined = loop_parts(row)
-            if kind == "repeat":
-                sorts[row[2]] = "count"
-            for parameter, value, behind in zip(parameters, begun, joined):
-                sorts[parameter] = sorts[behind] = sorts[value]
-        for inner in lists_of(row):
-            add_sorts(inner, sorts)
-        if kind == "if":
-            for value, behind in zip(row[3], row[6]):
-                sorts[behind] = sorts[value]
-        elif kind == "call":
-            for value, sort in row[1]:
-                sorts[value] = sort
-        elif kind not in ("repeat", "while"):
-            for value in set_by(row):
-                sorts[value] = sort_set_by(row)
-
-
-def sort_set_by(row):
-    """The sort of the value that a row without lists sets."""
-    if row[0] in ("form", "scale", "share", "read"):
-        return "amount"
-    if row[0] == "known":
-        return "truth" if isinstance(row[2], bool) else "count"
-    return "truth" if row[0] == "test" or row[2] in TRUTH_WORDS else "count"
-
-
 def forms_over_leaves(code):
     """The dict from all amounts of the code to their forms over leaves."""
-    sorts = sorts_of(code)
-    forms = {value: Form.symbol(f"v{value}") for value in sorts if sorts[value] == "amount"}
+    amounts = {value: True for value, sort in code.parameters if sort == "amount"}
+    add_amounts(code.rows, amounts)
+    forms = {value: Form.symbol(f"v{value}") for value in amounts}
     for row in all_rows(code.rows):
         if row[0] == "form":
             forms[row[1]] = form_of_sum(row[2], row[3], forms)
     return forms
+
+
+def add_amounts(rows, amounts):
+    """Adds the amounts that rows set."""
+    for row in rows:
+        if row[0] in LOOPS:
+            parameters, begun, _, joined = loop_parts(row)
+            add_copies([*parameters, *joined], [*begun, *begun], amounts)
+        for inner in lists_of(row):
+            add_amounts(inner, amounts)
+        if row[0] == "if":
+            add_copies(row[6], row[3], amounts)
+        elif row[0] == "call":
+            amounts.update({value: True for value, sort in row[1] if sort == "amount"})
+        elif row[0] in AMOUNT_ROWS:
+            amounts[row[1]] = True
+
+
+def add_copies(values, others, amounts):
+    """Adds those values that are what others, which are amounts, are."""
+    for value, other in zip(values, others):
+        if other in amounts:
+            amounts[value] = True
 
 
 def form_of_sum(constant, parts, forms):

@@ -86,7 +86,7 @@ class Losing:
         if operands is None:
             self._network.add_edge(SOURCE, gate, self._free)
         else:
-            for operand in sorted({operand: True for operand in operands}):
+            for operand in operands:
                 self._add_free_edge((operand, stop), gate)
         self._add_free_edge((value, stop - 1), gate + 1)
         if value in self._stretch.asked(stop):
@@ -120,17 +120,15 @@ class Losing:
 
 
 def spots_before_asked(stretch):
-    """The tuples (value, stop) of dead values from which losing leads to something asked, in the order of stops."""
+    """The tuples (value, stop) of dead values from which losing leads to something asked."""
     values = stretch.all_values()
     found = []
-    later = {}
+    # What is asked for here or later, or is an operand of that: it leads there unless it is live.
+    leading = {}
     for stop in range(len(stretch.stops()) - 1, -1, -1):
-        leading = {value: True for value in stretch.asked(stop)}
-        leading.update(later)
-        later = {}
+        leading.update({value: True for value in stretch.asked(stop)})
         for value in reversed(values):
             if value in leading and stretch.first_dead_stop(value) <= stop:
-                later[value] = True
                 found.append((value, stop))
                 leading.update({operand: True for operand in stretch.operands(value) or ()})
-    return list(reversed(found))
+    return found

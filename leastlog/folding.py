@@ -34,7 +34,7 @@ class Folding(Rewriter):
     def _chosen(self, row):
         """The one list of an if that is done."""
         rows, values = (row[2], row[3]) if self._worth(row[1]) else (row[4], row[5])
-        found = list(self.rewritten(rows))
+        found = self.rewritten(rows)
         self.put_in_place(row[6], values)
         return found
 

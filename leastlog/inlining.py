@@ -35,7 +35,7 @@ def optimized_book(program, *names):
     """The codes of all procedures of a program after passes in sequence."""
     check_names(names)
     book = book_of(program)
-    return {text: optimized(book[text], *names, book=book) for text in book}
+    return {text: optimized(code, *names, book=book) for text, code in book.items()}
 
 
 def check_names(names):
@@ -81,7 +81,7 @@ class Inlining(Rewriter):
         rows = self._renumbered(code, row[3])
         outer = self._ahead
         self._ahead = self._last
-        found = list(self.rewritten(rows[:-1]))
+        found = self.rewritten(rows[:-1])
         self._ahead = outer
         self.put_in_place([value for value, _ in row[1]], rows[-1][1])
         return found

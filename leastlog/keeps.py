@@ -37,7 +37,7 @@ def known_values(stretch, keeps):
         for value in values:
             if not stretch.is_present(value, stop):
                 break
-            was_known = stop == 0 or not stretch.is_present(value, stop - 1) or value in ahead
+            was_known = value in ahead or not stretch.is_present(value, stop - 1)
             operands = stretch.operands(value)
             is_computed = operands is not None and all([operand in here for operand in operands])
             if was_known and (stretch.is_live(value, stop) or (value, stop) in kept or is_computed):

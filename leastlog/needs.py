@@ -1,6 +1,6 @@
 """The pass that leaves out what is not needed."""
 
-from leastlog.coderows import PLAIN, all_rows, lists_of, loop_parts, thinned, used_by, with_lists
+from leastlog.coderows import LOOPS, PLAIN, all_rows, lists_of, loop_parts, thinned, used_by, with_lists
 
 
 class Needs:
@@ -30,13 +30,11 @@ class Needs:
             self._add([row[1]])
             for value, other, joined in zip(row[3], row[5], row[6]):
                 self._sources[joined] = [value, other]
-        elif kind in ("repeat", "while"):
+        elif kind in LOOPS:
             self._add([row[1] if kind == "repeat" else row[5]])
             parts = loop_parts(row)
             for parameter, begun, value, joined in zip(*parts):
-                self._sources[parameter] = [begun, value]
-                # Behind a while are its parameters.
-                self._sources[joined] = [begun, value] if kind == "repeat" else [parameter]
+                self._sources[parameter] = self._sources[joined] = [begun, value]
         else:
             self._add(used_by(row))
 
@@ -47,7 +45,7 @@ class Needs:
     def _thinned(self, row):
         if row[0] == "if":
             positions = [at for at, joined in enumerate(row[6]) if joined in self._needed]
-        elif row[0] in ("repeat", "while"):
+        elif row[0] in LOOPS:
             parameters, _, _, joined = loop_parts(row)
             both = [(parameters[at], joined[at]) for at in range(len(joined))]
             positions = [at for at, (one, other) in enumerate(both) if one in self._needed or other in self._needed]

@@ -23,7 +23,7 @@ class Rewriter:
         return tuple(found)
 
     def replacing(self, row):
-        """The list of the rows in the place of a row."""
+        """The rows in the place of a row."""
         return [self.with_names(row)]
 
     def with_names(self, row):

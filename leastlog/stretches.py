@@ -171,7 +171,7 @@ def stretch_of(code, path=()):
     found = [("leaf", value) for value in [*entered, *outer]]
     for row in rows:
         found.extend(stretch_rows(row))
-    return Stretch(found, sorted({value: True for value in [*behind, *outer]}) if path else ())
+    return Stretch(found, sorted({value: True for value in [*behind, *outer]}))
 
 
 def outer_values(rows, entered, behind):

@@ -90,6 +90,7 @@ class CodeCheck:
         scope.add(value)
 
     def use(self, values, sorts, scope):
+        """Fails unless values are set and of these sorts, if they are told."""
         for value in values:
             self.case.assertIn(value, scope)
         if sorts is not None:
@@ -102,6 +103,7 @@ class CodeCheck:
             getattr(self, "check_" + row[0])(row, scope, loops)
 
     def check_parts(self, constant, parts, scope):
+        self.case.assertIs(type(parts), tuple)
         self.case.assertIs(type(constant), Amount)
         self.use([value for value, _ in parts], ["amount"] * len(parts), scope)
         self.case.assertEqual([value for value, _ in parts], sorted({value for value, _ in parts}))
@@ -145,6 +147,8 @@ class CodeCheck:
 
     def check_stop(self, row, scope, loops):
         self.case.assertEqual(len(row[1]), len(row[2]))
+        for part in (row[1], row[2], *row[1], *row[2], *[pair for frame in row[2] for pair in frame]):
+            self.case.assertIs(type(part), tuple)
         self.case.assertEqual(sum(depth for _, _, depth in row[1]), loops)
         for told in tolds_of(row):
             if told[0] == "form":

@@ -137,6 +137,13 @@ class RowsTest(unittest.TestCase):
         check_same(self, self.run_rows(rows, [9], ((0, "count"),), {"m.q": called})[1:], [
             ("stop", (("m.p", "3", ()), ("m.x", "4", ()), ("m.q", "0", ())), ({"a": 9}, {"b": 9}, {"z": 5})), ("gave", (5,))])
 
+    def test_loops_without_rows(self):
+        for turns, joined in ((0, (7, 9)), (1, (9, 7)), (2, (7, 9)), (3, (9, 7))):
+            rows = (("known", 0, turns), ("known", 1, 7), ("known", 2, 9), ("repeat", 0, 3, (4, 5), (1, 2), (), (5, 4), (6, 7)), ("give", (6, 7)))
+            check_same(self, self.run_rows(rows), [("gave", joined)])
+        rows = (("known", 0, 10 ** 29), ("repeat", 0, 3, (), (), (), (), ()), ("give", (0,)))
+        check_same(self, self.run_rows(rows), [("gave", (10 ** 29,))])
+
     def test_known_truth_of_a_head_from_outside(self):
         rows = (("known", 0, True), ("while", 2, (), (), (), 0, (), (), ()), ("give", ()))
         check_same(self, self.run_rows(rows), [("failed", "bound")])
@@ -206,6 +213,9 @@ class PartingTest(unittest.TestCase):
             self.assertEqual([parting(trace, other), parting(other, trace)], [at, at])
         for length in range(3):
             self.assertEqual([parting(trace, trace[:length]), parting(trace[:length], trace)], [length, length])
+        for one in ((1,), [1], {1: 2}, "1"):
+            for other in (1, None, "a", (2,), [2], {1: 3}, (1, 2), ()):
+                self.assertEqual([parting([("gave", one)], [("gave", other)]), parting([("gave", other)], [("gave", one)])], [0, 0])
         self.assertEqual(parting(trace[:2], [trace[0], ("test", 1), trace[2]]), 1)
         self.assertEqual(parting([("gave", (Form(1),))], [("gave", (ONE,))]), 0)
 

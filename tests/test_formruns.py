@@ -15,7 +15,7 @@ from leastlog.moduletexts import read_module
 from leastlog.programs import Program
 from leastlog.runs import Run
 
-HEADER = "module m\ncell c\ncells r 2\n"
+HEADER = "module m\ncell c\ncells r 2\nprocedure hidden a:amount b:amount\n  return\n"
 A, B = Form.symbol("a"), Form.symbol("b")
 
 
@@ -166,7 +166,7 @@ class FormRunTest(unittest.TestCase):
         check_error(self, InvalidCells, {"key": "m.d"}, FormRun.traced, TESTS, "m.p", [A, B], [], {"m.d": A, "z": A})
         for value in (None, 5, [A], [A, B, A], {0: A, 1: B}):
             check_error(self, InvalidArguments, {"position": None}, FormRun, TESTS, "m.p", value, 5)
-        for value in (*ODD_VALUES, 1, "m.q", "p"):
+        for value in (*ODD_VALUES, 1, "m.q", "p", "m.hidden"):
             check_error(self, UnknownProcedure, {"name": value}, FormRun, TESTS, value, 5, 5, 5)
             check_error(self, UnknownProcedure, {"name": value}, FormRun.traced, TESTS, value, 5, 5, 5)
 
@@ -181,6 +181,8 @@ class FormRunTest(unittest.TestCase):
         for _ in range(6):
             run.step()
         other = run.clone()
+        check_same(self, [other.trace(), other.conditions(), other.place, other.stop_count], [
+            run.trace(), run.conditions(), run.place, 7])
         other.finish()
         check_same(self, [run.stop_count, run.path(), len(run.conditions())], [7, [True, True], 2])
         run.finish()
@@ -192,8 +194,10 @@ class FormRunTest(unittest.TestCase):
         run = FormRun(program=TESTS, procedure="m.p", arguments=arguments, path=path, cells=cells)
         whole = FormRun.traced(program=TESTS, procedure="m.p", arguments=tuple(arguments), path=tuple(path), cells=cells)
         arguments.clear(), path.clear(), cells.clear()
-        run.finish()
-        check_same(self, run.trace(), whole)
+        other = run.clone()
+        for one in (run, other, other.clone()):
+            one.finish()
+            check_same(self, one.trace(), whole)
         for found in (run.trace(), run.path(), run.conditions(), run.reads(), run.writes()):
             found.clear()
         check_same(self, run.trace(), whole)

@@ -138,6 +138,9 @@ class ErrorsTest(unittest.TestCase):
             check_error(self, InvalidKeeps, {"position": position}, FramePlan, STRETCH, keeps)
         check_error(self, Insufficient, {"value": 2, "stop_number": 2}, FramePlan, STRETCH, [])
         check_error(self, Insufficient, {"value": 2, "stop_number": 2}, FramePlan, STRETCH, [(1, 2), (2, 3)])
+        stretch = Stretch([("leaf", 5), ("leaf", 3), ("stop", "a", ()), ("stop", "b", (5, 3))])
+        check_error(self, Insufficient, {"value": 3, "stop_number": 1}, FramePlan, stretch, [(5, 0), (5, 1)])
+        check_error(self, Insufficient, {"value": 5, "stop_number": 1}, FramePlan, stretch, [(3, 0), (3, 1)])
 
     def test_values_and_stops(self):
         for function in (self.plan.slot_of, self.plan.recipe):

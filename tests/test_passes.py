@@ -199,6 +199,12 @@ class ShareTest(unittest.TestCase):
         rows = (("while", 3, (), (), (("known", 3, 1), ("known", 4, True)), 4, (("known", 5, 1),), (), ()), ("known", 6, 1), ("give", (6,)))
         self.assertEqual(share_equal(made(*rows)).rows, rows)
 
+    def test_scales_and_shares_are_not_equal(self):
+        rows = (("scale", 3, 0, 1), ("share", 4, 0, 1), ("op", 5, "+", (1, 1)), ("op", 6, "*", (1, 1)), ("op", 7, "*", (1, 5)),
+                ("form", 8, ONE, ((0, ONE),)), ("form", 9, TWO, ((0, ONE),)), ("form", 10, ONE, ((0, TWO),)), ("form", 11, ONE, ()),
+                ("form", 12, Amount(1, 2), ((0, ONE),)), ("form", 13, ONE, ((0, Amount(1, 2)),)), ("give", (3, 4)))
+        self.assertEqual(share_equal(made(*rows)).rows, rows)
+
     def test_reads_and_tests_stay(self):
         rows = (("read", 3, "m.c", None), ("read", 4, "m.c", None), ("test", 5, "less", 0, 3), ("test", 6, "less", 0, 3), ("give", (4, 6)))
         self.assertEqual(share_equal(made(*rows)).rows, rows)

@@ -317,6 +317,16 @@ class RunTest(unittest.TestCase):
                 check_same(self, [one.trace(), one.writes(), one.reads(), one.path(), one.outcome, one.stop_count],
                            [run.trace(), run.writes(), run.reads(), run.path(), run.outcome, run.stop_count])
 
+    def test_paths_of_clones(self):
+        run = run_of("let t = (@c same 0/1)\nlet u = (@c less 0/1)\nreturn")
+        run.step()
+        other = run.clone()
+        other.finish()
+        run.path().clear()
+        check_same(self, [run.path(), other.path()], [[True], [True, False]])
+        run.finish()
+        check_same(self, [run.path(), other.path()], [[True, False], [True, False]])
+
     def test_passed_and_returned_values_are_apart(self):
         made = program("let x = (@c + a)\nput c = x\nreturn x", header="export procedure p a:amount -> amount")
         arguments, cells = [Amount(1)], {"m.c": Amount(2)}

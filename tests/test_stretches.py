@@ -69,7 +69,7 @@ class StretchTest(unittest.TestCase):
                  ("set", 5, (0, True)), ("set", 5, (0, 4)), ("set", 0, ()), ("set", -5, ()), ("set", True, ()), ("set", 5, (0,), ()),
                  ("use", 0), ("use", [0]), ("use", (1,)), ("use", (False,)), ("use", ("0",)), ("use", (0,), ()), ("use",), ("stop", "a"),
                  ("stop", "a", 0), ("stop", "a", [0]), ("stop", "a", (5,)), ("stop", 0, ()), ("stop", None, ()), ("stop", "a", (), ()),
-                 ("stop", "a", (True,)), (None, 5), (("leaf",), 5), ("use", ((0,),)), ("use", (None,)), ("set", 5, "")]
+                 ("stop", "a", (True,)), ("halt", "a", ()), ("leaf", "a", ()), ("use", "a", ()), (None, 5), (("leaf",), 5), ("use", ((0,),)), ("use", (None,)), ("set", 5, "")]
         for value in wrong:
             for position in (3, 4):
                 rows = [*good[:position], value, *good[position:], ("leaf", 2)]
