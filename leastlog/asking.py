@@ -15,30 +15,28 @@ class Asking(Rewriter):
         self._unused = unused_value(code)
 
     def replacing(self, row):
-        """The row; of a stop that asks for too many amounts, form rows and a stop that asks for fewer."""
+        """The row; in the place of a stop perhaps form rows, and a stop that asks for as few amounts as possible."""
         if row[0] != "stop":
             return [self.with_names(row)]
         tolds = [told for frame in row[2] for _, told in frame if told[0] == "form"]
         asked = sorted({value: True for told in tolds for value in asked_by(told)})
         shown = [form_of_sum(told[1], told[2], self._forms) for told in tolds]
-        span = Telling(shown)
-        if span.rank() == len(asked):
-            return [row]
-        rows, values, base = self._base(tolds, shown, asked, span)
+        rows, values, base = self._base(tolds, shown, asked)
         told_anew = [told_by(base.weights_of(form), values) for form in shown]
         return [*rows, ("stop", row[1], with_tolds(row[2], told_anew))]
 
-    def _base(self, tolds, shown, asked, span):
+    def _base(self, tolds, shown, asked):
         """Rows for new values, values that tell all that is shown, none told by the others, and their forms."""
-        rows, values, base = [], [], Telling([])
+        rows, values = [], []
+        span, base = Telling(shown), Telling([])
         for value in asked:
             form = self._forms[value]
             if span.tells(form) and not base.tells(form):
-                base.adds(form)
+                base.include(form)
                 values.append(value)
         for told, form in zip(tolds, shown):
             if not base.tells(form):
-                base.adds(form)
+                base.include(form)
                 values.append(self._unused)
                 rows.append(("form", self._unused, told[1], told[2]))
                 self._unused = self._unused + 1

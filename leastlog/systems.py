@@ -17,21 +17,13 @@ class Telling:
     def __init__(self, forms):
         self._echelon = Echelon()
         self._size = 0
-        self._rank = 0
         for form in forms:
-            self.adds(form)
+            self.include(form)
 
-    def adds(self, form):
-        """Adds a form; returns whether it was not told."""
-        row = self._echelon.enter(form, self._size)
+    def include(self, form):
+        """Adds a form behind the others."""
+        self._echelon.enter(form, self._size)
         self._size += 1
-        is_new = len(symbols_of(row)) > 0
-        self._rank += 1 if is_new else 0
-        return is_new
-
-    def rank(self):
-        """How many of the forms tell all of them."""
-        return self._rank
 
     def tells(self, form):
         """Whether a form is told by the forms."""
