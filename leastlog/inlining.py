@@ -46,7 +46,7 @@ def check_names(names):
 
 
 class Inlining(Rewriter):
-    """Puts codes of a book in the place of calls.
+    """Puts codes of a book in the place of calls, and codes in the place of the calls of these.
 
     A SIGHT is a tuple (frames, shown) of a stop row.
     """
@@ -55,43 +55,50 @@ class Inlining(Rewriter):
         Rewriter.__init__(self)
         self._book = book
         self._unused = unused_value(code)
-        # What stops have ahead of their own: the sight of the call in whose place they stand.
-        self._ahead = ((), ())
+        # The sight of the last stop, and that which stops have ahead of their own.
         self._last = ((), ())
+        self._ahead = ((), ())
+        # The calls in whose place rows stand now: the values of their results, and what was ahead of stops before.
+        self._calls = []
 
     def rewritten(self, rows):
         """The rows of a list; behind it the last stop is that ahead of it."""
-        last = self._last
-        found = super().rewritten(rows)
-        self._last = last
-        return found
+        outer = self._last
+        found = []
+        todo = list(reversed(rows))
+        while todo:
+            row = todo.pop()
+            if row[0] == "call" and row[2] in self._book:
+                todo.extend(list(reversed(self._begin_call(row))))
+            elif row[0] == "give" and self._calls:
+                self._end_call(row)
+            else:
+                found.append(self._in_sight(self.with_names(row)))
+        self._last = outer
+        return tuple(found)
 
-    def replacing(self, row):
-        """The row, or the rows of a code in the place of a call."""
-        if row[0] == "call" and row[2] in self._book:
-            return self._of_call(row)
-        row = self.with_names(row)
-        if row[0] != "stop":
-            return [row]
-        self._last = ((*self._ahead[0], *row[1]), (*self._ahead[1], *row[2]))
-        return [("stop", *self._last)]
-
-    def _of_call(self, row):
+    def _begin_call(self, row):
+        """The rows in the place of a call, with unused values for all that they set; the last one ends it."""
         code = self._book[row[2]]
-        rows = self._renumbered(code, row[3])
-        outer = self._ahead
-        self._ahead = self._last
-        found = self.rewritten(rows[:-1])
-        self._ahead = outer
-        self.put_in_place([value for value, _ in row[1]], rows[-1][1])
-        return found
-
-    def _renumbered(self, code, arguments):
-        """The rows of a code with the arguments in place of its parameters, and unused values for all others."""
         names = {}
         for value in values_set_in(code.rows):
             names[value] = self._unused
             self._unused = self._unused + 1
-        for (value, _), argument in zip(code.parameters, arguments):
+        for (value, _), argument in zip(code.parameters, row[3]):
             names[value] = self.value_for(argument)
+        self._calls.append(([value for value, _ in row[1]], self._ahead))
+        self._ahead = self._last
         return renamed_rows(code.rows, names)
+
+    def _end_call(self, row):
+        results, ahead = self._calls.pop()
+        self.put_in_place(results, row[1])
+        self._last = self._ahead
+        self._ahead = ahead
+
+    def _in_sight(self, row):
+        """The row, a stop with the sight of the calls ahead of its own."""
+        if row[0] != "stop":
+            return row
+        self._last = ((*self._ahead[0], *row[1]), (*self._ahead[1], *row[2]))
+        return ("stop", *self._last)
