@@ -126,11 +126,11 @@ class InlineTest(unittest.TestCase):
         frame = (("n", ("value", 0)),)
         begin = ("stop", (("m.p", "3", 0),), (frame,))
         branch = ("if", 1, (("stop", (("m.p", "x", 0),), (frame,)), ("call", (), "m.q", ())), (), (("call", (), "m.q", ()),), (), ())
-        rows = (begin, branch, ("call", (), "m.q", ()), ("give", ()))
+        rows = (begin, branch, ("call", (), "m.q", ()), ("call", (), "m.q", ()), ("give", ()))
         code = inline(Code("m.p", ((0, "count"), (1, "truth")), rows), {"m.q": called})
         self.assertEqual([row[1] for row in stops(code)], [
             (("m.p", "3", 0),), (("m.p", "x", 0),), (("m.p", "x", 0), ("m.q", "0", 0)), (("m.p", "3", 0), ("m.q", "0", 0)),
-            (("m.p", "3", 0), ("m.q", "0", 0))])
+            (("m.p", "3", 0), ("m.q", "0", 0)), (("m.p", "3", 0), ("m.q", "0", 0))])
 
     def test_nothing_to_put_in_line(self):
         for code in BOOK.values():
