@@ -5,6 +5,7 @@ from random import Random
 from makers import Maker
 
 from leastlog.amounts import Amount
+from leastlog.errors import InvalidPath
 from leastlog.formruns import symbol_of
 from leastlog.forms import Form
 from leastlog.programs import Program
@@ -74,3 +75,20 @@ def value_at(value, point):
     if isinstance(value, dict):
         return {key: value_at(part, point) for key, part in value.items()}
     return value
+
+
+def other_paths(random, path):
+    """Paths that are shorter, longer, or have other truths."""
+    found = [path[:random.randint(0, len(path))], [*path, random.random() < 0.5]]
+    if path:
+        at = random.randrange(len(path))
+        found.append([*path[:at], not path[at], *[random.random() < 0.5 for _ in range(4)]])
+    return found
+
+
+def outcome_of(function, *arguments, **options):
+    """What a run on forms returns, or the position at which its path is invalid."""
+    try:
+        return function(*arguments, **options)
+    except InvalidPath as error:
+        return "invalid", error.position

@@ -1,8 +1,9 @@
 """[30] Runs of codes."""
 
 import unittest
+from random import Random
 
-from cases import random_cases
+from cases import other_paths, outcome_of, random_cases
 from helpers import ODD_VALUES, check_error, check_same
 
 from leastlog.amounts import Amount
@@ -95,6 +96,8 @@ class TracesTest(unittest.TestCase):
         self.check_sorts("let x = 0\nlet y = 1\nrepeat n as i\n  let z = x\n  set x = y\n  set y = (z + y)\nput c = (a * y)\nreturn")
 
     def test_random_runs(self):
+        random = Random(300)
+        invalid = 0
         for case in random_cases(30, 120):
             book = book_of(case.program)
             check_same(self, run_code(case.program, book, case.text, case.arguments, case.cells), case.run.trace())
@@ -102,6 +105,12 @@ class TracesTest(unittest.TestCase):
             trace = FormRun.traced(case.program, case.text, case.form_arguments, path, case.form_cells)
             found = run_code(case.program, book, case.text, case.form_arguments, case.form_cells, path=path)
             check_same(self, found, trace)
+            for other in other_paths(random, path):
+                expected = outcome_of(FormRun.traced, case.program, case.text, case.form_arguments, other, case.form_cells)
+                found = outcome_of(run_code, case.program, book, case.text, case.form_arguments, case.form_cells, path=other)
+                check_same(self, found, expected)
+                invalid += expected[0] == "invalid"
+        self.assertGreater(invalid, 50)
 
 
 class RowsTest(unittest.TestCase):

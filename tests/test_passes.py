@@ -3,7 +3,7 @@
 import unittest
 from random import Random
 
-from cases import random_cases, random_programs
+from cases import other_paths, outcome_of, random_cases, random_programs
 from codechecks import CHECKS, CodeCheck, copies, each_row, inner, tolds_of
 from helpers import check_same
 
@@ -82,6 +82,10 @@ class RandomCodesTest(unittest.TestCase):
                 self.assertIsNone(parting(found, case.run.trace()), names)
                 found = run_code(case.program, book, case.text, case.form_arguments, case.form_cells, path=path)
                 self.assertIsNone(parting(found, trace), names)
+                for other in other_paths(random, path):
+                    found = outcome_of(run_code, case.program, book, case.text, case.form_arguments, case.form_cells, path=other)
+                    expected = outcome_of(FormRun.traced, case.program, case.text, case.form_arguments, other, case.form_cells)
+                    self.assertIsNone(parting(found, expected), (names, found, expected))
 
 
 class SpreadTest(unittest.TestCase):
