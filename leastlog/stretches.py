@@ -189,4 +189,6 @@ def stretch_rows(row):
     if kind == "stop":
         return [("stop", row[1][-1][1], tuple(asked_at(row)))]
     used = outer_values([row], (), ()) if kind in ("if", "repeat", "while") else used_by(row)
-    return [("use", tuple(used)), *[("leaf", value) for value in set_by(row)]]
+    # A read without an index needs nothing.
+    needs = [] if kind == "read" and not used else [("use", tuple(used))]
+    return [*needs, *[("leaf", value) for value in set_by(row)]]

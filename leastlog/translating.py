@@ -166,8 +166,8 @@ class Translation:
         return self._operation(kind, operands, rows)
 
     def _operation(self, kind, operands, rows):
-        sorts = [self._sorts[value] for value in operands]
-        sort = OPERATIONS[(kind, *sorts)]
+        operation = (kind, *[self._sorts[value] for value in operands])
+        sort = OPERATIONS[operation]
         if kind in ("same", "less"):
             return self._set("test", "truth", [kind, *operands], rows)
         if sort != "amount":

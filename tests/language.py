@@ -346,6 +346,10 @@ class FileCheck:
             if not at_once:
                 self.complain(node, f"L23 {name}")
 
+    def check_subscript(self, node):
+        if any(isinstance(part, ast.Starred) for part in ast.walk(node.slice)):
+            self.complain(node, "L7 star in an index")
+
     def check_for(self, node):
         self.check_loop(node.iter, node.body)
 

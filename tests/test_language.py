@@ -12,6 +12,7 @@ SAMPLES = {
     "L2 library": "from math import sin\n",
     "L16 import": "import math\n",
     "L3 statement": "print(1)\n",
+    "L7 star in an index": "TABLE = {}\n\n\ndef told(x):\n    return TABLE[(1, *x)]\n",
     "L8 print": "def told():\n    print(1)\n",
     "L8, L15 name sum": "def told(sum):\n    return sum\n",
     "L10 function": "def told():\n" + "    pass\n" * 40,

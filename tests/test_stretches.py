@@ -120,7 +120,7 @@ class OfCodeTest(unittest.TestCase):
 
     def test_the_outermost_list(self):
         rows = [("leaf", 0), ("leaf", 1), ("leaf", 2), ("stop", "0", (0, 1)), ("set", 3, (0,)), ("set", 4, (3, 1)), ("set", 5, (3, 1)),
-                ("set", 6, ()), ("set", 7, (6, 6)), ("set", 8, (2,)), ("set", 9, (4, 3)), ("use", ()), ("leaf", 10), ("use", (7,)), ("leaf", 11),
+                ("set", 6, ()), ("set", 7, (6, 6)), ("set", 8, (2,)), ("set", 9, (4, 3)), ("leaf", 10), ("use", (7,)), ("leaf", 11),
                 ("use", (10,)), ("use", (1, 11)), ("use", (5, 1, 5)), ("leaf", 12), ("leaf", 13), ("use", ()),
                 ("use", (1, 2, 4, 6, 9, 12, 13)), ("leaf", 25), ("leaf", 26), ("use", (0, 8, 25)), ("leaf", 27), ("use", (27, 1, 27))]
         self.check((), rows, [])
@@ -133,7 +133,7 @@ class OfCodeTest(unittest.TestCase):
                    [2, 13, 14, 17, 19])
         self.check((14, 0, 0, 1), [("leaf", 17), ("leaf", 1), ("leaf", 4), ("leaf", 9), ("leaf", 16), ("use", (1, 9, 16, 17)), ("leaf", 21),
                                    ("leaf", 22), ("set", 23, (4, 21))], [1, 4, 9, 16, 23])
-        self.check((14, 0, 0, 1, 0, 0), [("leaf", 1), ("use", ()), ("leaf", 20)], [1, 20])
+        self.check((14, 0, 0, 1, 0, 0), [("leaf", 1), ("leaf", 20)], [1, 20])
         self.check((14, 0, 0, 1, 0, 1), [("leaf", 16), ("leaf", 17), ("stop", "x", (17,))], [16, 17])
         self.check((15, 0), [("leaf", 25)], [25])
         self.check((15, 1), [("leaf", 0)], [0])
@@ -144,6 +144,25 @@ class OfCodeTest(unittest.TestCase):
         check_same(self, [head.row_list, head.out_list], [[("leaf", 1), ("leaf", 2), ("leaf", 5)], [1, 2, 5]])
         body = stretch_of(code, (1, 1))
         check_same(self, [body.row_list, body.out_list], [[("leaf", 1), ("leaf", 2), ("leaf", 0)], [0, 2]])
+
+    def test_reads(self):
+        read = ("read", 3, "m.c", None)
+        for rows, expected in (
+            ((read,), [("leaf", 3)]),
+            ((("read", 3, "m.r", 0),), [("use", (0,)), ("leaf", 3)]),
+            ((read, ("read", 4, "m.r", 0), ("read", 5, "m.c", None)), [("leaf", 3), ("use", (0,)), ("leaf", 4), ("leaf", 5)]),
+            ((("call", (), "m.q", ()), ("call", ((3, "amount"),), "m.q", ())), [("use", ()), ("use", ()), ("leaf", 3)]),
+        ):
+            found = stretch_of(Code("m.p", ((0, "count"),), (*rows, ("give", ()))))
+            check_same(self, [found.row_list, found.out_list], [[("leaf", 0), *expected, ("use", ())], []])
+        code = Code("m.p", ((0, "truth"), (1, "count")), (
+            ("if", 0, (read,), (3,), (("read", 4, "m.r", 1),), (4,), (5,)),
+            ("while", 2, (6,), (5,), (("read", 7, "m.c", None), ("test", 8, "less", 7, 6)), 8, (("read", 9, "m.c", None),), (9,), (10,)),
+            ("give", (10,))))
+        for path, expected in (((0, 0), [("leaf", 3)]), ((0, 1), [("leaf", 1), ("use", (1,)), ("leaf", 4)]), ((1, 1), [("leaf", 6), ("leaf", 9)]),
+                               ((1, 0), [("leaf", 6), ("leaf", 7), ("set", 8, (7, 6))])):
+            check_same(self, stretch_of(code, path).row_list, expected)
+        check_same(self, stretch_of(code).row_list, [("leaf", 0), ("leaf", 1), ("use", (0, 1)), ("leaf", 5), ("use", (5,)), ("leaf", 10), ("use", (10,))])
 
     def test_unknown_paths(self):
         for value in (*[value for value in ODD_VALUES if value != ()], 0, [], [14, 0], (14,), (0, 0), (14, 1), (14, -1), (14, True), (14, False),
