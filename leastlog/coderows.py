@@ -40,9 +40,7 @@ def all_rows(rows):
     """The list of all rows, each one ahead of those in its lists."""
     found = []
     for row in rows:
-        found.append(row)
-        for inner in lists_of(row):
-            found.extend(all_rows(inner))
+        found.extend([row, *[part for inner in lists_of(row) for part in all_rows(inner)]])
     return found
 
 

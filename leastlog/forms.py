@@ -156,17 +156,19 @@ def form_of(value):
 
 def form_text(constant, weights):
     """The text of a form, the first part with its sign directly ahead of it."""
-    parts = []
-    if constant.sign or not weights:
-        parts.append((constant.sign, unsigned_text(constant)))
-    for symbol, weight in weights.items():
-        factor = unsigned_text(weight)
-        parts.append((weight.sign, symbol if factor == "1" else f"{factor} {symbol}"))
+    constants = [(constant.sign, unsigned_text(constant))] if constant.sign or not weights else []
+    parts = [*constants, *[(weight.sign, term_text(symbol, weight)) for symbol, weight in weights.items()]]
     sign, text = parts[0]
     text = f"-{text}" if sign < 0 else text
     for sign, part in parts[1:]:
         text = f"{text} - {part}" if sign < 0 else f"{text} + {part}"
     return text
+
+
+def term_text(symbol, weight):
+    """The text of a term without the sign of its weight."""
+    factor = unsigned_text(weight)
+    return symbol if factor == "1" else f"{factor} {symbol}"
 
 
 def unsigned_text(amount):

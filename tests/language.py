@@ -11,7 +11,7 @@ import re
 ALLOWED_BUILTINS = set(
     "len range enumerate zip min max sum abs sorted int str bool list tuple dict isinstance repr any all divmod "
     "reversed Exception ValueError TypeError KeyError IndexError LookupError ZeroDivisionError ArithmeticError "
-    "OverflowError RuntimeError NotImplementedError".split())
+    "OverflowError RuntimeError NotImplementedError ord".split())
 ALLOWED_METHODS = set(
     "append clear copy count endswith extend find get index insert isalnum isalpha isdigit islower isspace isupper "
     "items join keys ljust lower lstrip partition pop remove replace reverse rfind rjust rpartition rsplit rstrip "
