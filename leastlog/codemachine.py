@@ -14,6 +14,12 @@ class Strand:
         self.is_head = is_head
         self.position = 0
 
+    def clone(self):
+        """An independent list under way at the same position."""
+        other = Strand(self.rows, self.row, self.turn, self.is_head)
+        other.position = self.position
+        return other
+
     def is_in_loop(self):
         """Whether the list belongs to a loop."""
         return self.row is not None and self.row[0] != "if"
@@ -22,12 +28,19 @@ class Strand:
 class Activity:
     """A code under way: its lists, the outermost one first, its values, and its last stop."""
 
-    def __init__(self, code, arguments):
-        self.worths = {value: worth for (value, _), worth in zip(code.parameters, arguments)}
-        self.strands = [Strand(code.rows)]
+    def __init__(self, worths, strands):
+        self.worths = worths
+        self.strands = strands
         # The frames and the variables of its last stop.
         self.sight = ()
         self.visible = ()
+
+    def clone(self):
+        """An independent code under way at the same place."""
+        other = Activity(dict(self.worths), [strand.clone() for strand in self.strands])
+        other.sight = self.sight
+        other.visible = self.visible
+        return other
 
     def worths_of(self, values):
         """What values are now."""
@@ -52,34 +65,76 @@ class CodeMachine:
         self._arithmetic = arithmetic
         self._written = {}
         self._events = []
+        self._stops = 0
+        self._place = None
         self._stack = []
 
-    def run(self, text, arguments):
-        """Runs the code of a procedure to its end; returns the list of the events."""
-        self._stack = [Activity(self._book[text], arguments)]
+    def clone(self):
+        """An independent run at the same place."""
+        other = CodeMachine(self._book, self._store, self._arithmetic.clone())
+        other._written = dict(self._written)
+        other._events = list(self._events)
+        other._stops = self._stops
+        other._place = self._place
+        other._stack = [activity.clone() for activity in self._stack]
+        return other
+
+    def start(self, text, arguments):
+        """Enters the code of a procedure and comes to its first stop."""
+        self._enter(text, arguments)
+        self.go_on()
+
+    def go_on(self):
+        """Goes on to the next stop, or to the end."""
+        at_stop = False
         try:
-            while self._stack:
-                self._advance(self._stack[-1])
+            while self._stack and not at_stop:
+                at_stop = self._advance(self._stack[-1])
         except RunFailed as failure:
+            self._stack = []
             self._events.append(("failed", failure.why))
-        return self._events
+
+    def has_ended(self):
+        """Whether the run has come to its end."""
+        return not self._stack
+
+    def stops(self):
+        """The number of stops so far."""
+        return self._stops
+
+    def last_place(self):
+        """The place of the last stop."""
+        return self._place
+
+    def events(self):
+        """The list of the events so far."""
+        return list(self._events)
+
+    def _enter(self, text, arguments):
+        code = self._book[text]
+        worths = {value: worth for (value, _), worth in zip(code.parameters, arguments)}
+        self._stack.append(Activity(worths, [Strand(code.rows)]))
 
     def _advance(self, activity):
-        """Does the next row, or comes to the end of a list."""
+        """Does the next row, or comes to the end of a list; returns whether this was a stop."""
         strand = activity.strands[-1]
         if strand.position == len(strand.rows):
             activity.strands.pop()
             self._leave(activity, strand)
-            return
+            return False
         row = strand.rows[strand.position]
         strand.position += 1
+        self._do(activity, row)
+        return row[0] == "stop"
+
+    def _do(self, activity, row):
         kind = row[0]
         if kind == "stop":
             self._stop(activity, row)
         elif kind == "write":
             self._write(activity, row)
         elif kind == "call":
-            self._stack.append(Activity(self._book[row[2]], activity.worths_of(row[3])))
+            self._enter(row[2], activity.worths_of(row[3]))
         elif kind == "give":
             self._give(tuple(activity.worths_of(row[1])))
         elif kind in ("if", "repeat", "while"):
@@ -126,6 +181,7 @@ class CodeMachine:
         self._events.append(("write", cell, amount))
 
     def _stop(self, activity, row):
+        self._stops += 1
         rounds = activity.rounds()
         place = []
         for text, label, depth in row[1]:
@@ -133,9 +189,9 @@ class CodeMachine:
             rounds = rounds[depth:]
         activity.sight = tuple(place)
         activity.visible = tuple([self._frame(activity, frame) for frame in row[2]])
-        places = [frame for one in self._stack for frame in one.sight]
+        self._place = tuple([frame for one in self._stack for frame in one.sight])
         variables = [dict(frame) for one in self._stack for frame in one.visible]
-        self._events.append(("stop", tuple(places), tuple(variables)))
+        self._events.append(("stop", self._place, tuple(variables)))
 
     def _frame(self, activity, frame):
         return {variable: self._told(activity, told) for variable, told in frame}

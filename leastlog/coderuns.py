@@ -18,10 +18,13 @@ def run_code(program, book, procedure, arguments, cells=None, *, path=None):
     check_cells(program, cells, on_forms)
     arithmetic = FormArithmetic(path) if on_forms else PlainArithmetic()
     store = store_of(program, cells, arithmetic.made(Amount(0)))
-    events = CodeMachine(book, store, arithmetic).run(procedure, arguments)
+    machine = CodeMachine(book, store, arithmetic)
+    machine.start(procedure, arguments)
+    while not machine.has_ended():
+        machine.go_on()
     if on_forms:
         arithmetic.check_spent()
-    return events
+    return machine.events()
 
 
 def parting(trace, other):

@@ -41,8 +41,13 @@ def optimized_book(program, *names):
 def check_names(names):
     """Raises UnknownPass for the first value that is not the name of a pass."""
     for name in names:
-        if not isinstance(name, str) or name != IN_LINE and name not in PASSES:
+        if not is_pass(name):
             raise UnknownPass(name)
+
+
+def is_pass(value):
+    """Whether any value is the name of a pass, or that of calls in line."""
+    return isinstance(value, str) and (value == IN_LINE or value in PASSES)
 
 
 class Inlining(Rewriter):

@@ -32,18 +32,22 @@ def literal_in(word):
     return worth
 
 
-def module_line(module):
-    """The text of a module in one line."""
-    return BREAK.join(str(module).split("\n")[:-1])
+def one_line(text):
+    """A text of lines, each ended by a line feed, as one line."""
+    return BREAK.join(text.split("\n")[:-1])
+
+
+def lines_of(line):
+    """The text of lines that was made one line."""
+    return "".join([f"{part}\n" for part in line.split(BREAK)])
 
 
 def module_in(line):
     """The module whose text in one line this is; None if there is none."""
     if "\n" in line:
         return None
-    lines = line.split(BREAK)
     try:
-        module = read_module("".join([f"{part}\n" for part in lines]))
+        module = read_module(lines_of(line))
     except InvalidText:
         return None
     return module

@@ -3,7 +3,7 @@
 from leastlog.amounts import Amount
 from leastlog.errors import InvalidPayload
 from leastlog.kinds import is_list, is_name, is_whole
-from leastlog.literals import literal_in, module_in, module_line, natural_in
+from leastlog.literals import literal_in, module_in, natural_in, one_line
 from leastlog.modules import Module
 from leastlog.writing import literal_text
 
@@ -17,7 +17,7 @@ def payload_of(record):
         words = ["run", procedure, str(weight), *[literal_text(argument) for argument in arguments]]
         return " ".join(words)
     if is_new_version(record):
-        return module_line(record[1])
+        return one_line(str(record[1]))
     raise InvalidPayload(record)
 
 

@@ -20,18 +20,19 @@ def whole_records(text):
     lines = text.split("\n")[:-1]
     found = []
     for line in lines:
-        record = record_at_end(line)
-        if sealed(record) != f"{line}\n":
+        record = record_in_row(f"{line}\n")
+        if record is None:
             break
         found.append(record)
     return found
 
 
-def record_at_end(line):
-    """The record of a row, if it is a sealed one: what stands behind the second space."""
-    _, _, rest = line.partition(" ")
+def record_in_row(text):
+    """The record of which a string is the sealed row, None if it is none."""
+    # It stands behind the second space.
+    _, _, rest = text[:-1].partition(" ")
     _, _, record = rest.partition(" ")
-    return record
+    return record if "\n" not in record and sealed(record) == text else None
 
 
 def check_of(record):

@@ -76,7 +76,7 @@ class Package:
         self.attributes[node.name] = {
             at.attr for at in ast.walk(node)
             if isinstance(at, ast.Attribute) and isinstance(at.ctx, ast.Store) and getattr(at.value, "id", "") == "self"}
-        for method in [part for part in node.body if isinstance(part, ast.FunctionDef)]:
+        for method in [part for part in node.body if isinstance(part, ast.FunctionDef) and not is_setter(part)]:
             self.methods.setdefault(method.name, []).append((name, node, method))
             if any(getattr(mark, "id", "") == "property" for mark in method.decorator_list):
                 self.properties.add(method.name)
@@ -130,6 +130,11 @@ class Package:
                 elif isinstance(node, ast.Attribute):
                     queue += self.methods.get(node.attr, [])
         return found
+
+
+def is_setter(function):
+    """Whether a function is the setter of a property."""
+    return any(isinstance(mark, ast.Attribute) for mark in function.decorator_list)
 
 
 def changes(function):
@@ -238,7 +243,8 @@ class FileCheck:
         if node.name.startswith("__") and (not inside or node.name not in DUNDERS):
             self.complain(node, "L5 method")
         for mark in node.decorator_list:
-            if not inside or getattr(mark, "id", "") not in ("property", "classmethod", "staticmethod"):
+            setter = isinstance(mark, ast.Attribute) and mark.attr == "setter" and mark.value.id == node.name
+            if not inside or not setter and getattr(mark, "id", "") not in ("property", "classmethod", "staticmethod"):
                 self.complain(node, "L4 decorator")
         for default in [*node.args.defaults, *filter(None, node.args.kw_defaults)]:
             if not isinstance(default, (ast.Constant, ast.Tuple, ast.UnaryOp, ast.Name)):
@@ -259,7 +265,7 @@ class FileCheck:
     def check_classdef(self, node):
         if node.decorator_list or node.keywords or len(node.bases) > 1:
             self.complain(node, "L5 class")
-        names = [part.name for part in node.body if isinstance(part, ast.FunctionDef)]
+        names = [part.name for part in node.body if isinstance(part, ast.FunctionDef) and not is_setter(part)]
         if len(names) != len(set(names)):
             self.complain(node, "L18 method twice")
 
@@ -315,7 +321,8 @@ class FileCheck:
                   for target in part.targets}
         if called and node.attr not in ALLOWED_METHODS and node.attr not in self.package.methods:
             self.complain(node, f"L25 method {node.attr}")
-        if not called and node.attr not in stored | values | {"__class__", "__name__"}:
+        decorator = node.attr == "setter" and isinstance(node.parent, ast.FunctionDef)
+        if not called and not decorator and node.attr not in stored | values | {"__class__", "__name__"}:
             self.complain(node, f"L18 attribute {node.attr}")
         if called and node.attr == "__init__":
             function = node.parent
@@ -395,7 +402,8 @@ class FileCheck:
                     self.complain(node, "L27 string in an f-string")
 
     def check_excepthandler(self, node):
-        if not isinstance(node.type, ast.Name) or node.type.id not in self.package.classes:
+        caught = node.type.elts if isinstance(node.type, ast.Tuple) else [node.type]
+        if not caught or any(not isinstance(one, ast.Name) or one.id not in self.package.classes for one in caught):
             self.complain(node, "L19 handler")
 
     def check_raise(self, node):
