@@ -102,29 +102,22 @@ class KeptTest(unittest.TestCase):
         self.check(told(("twin", [3, 4])), [(("input", 0, 0), 3), (("input", 0, 1), 4)])
 
     def test_a_kept_number_may_be_dropped_later(self):
-        """A test that shows two amounts to be the same tells one of them by the other."""
-        text = SHOP.replace("export procedure swap", "export procedure look\n  if (@cash less 0/1)\n    put tin = 1/1\n  if (0/1 less @cash)\n    put tin = 2/1\n  return\nexport procedure swap")
-        found = Told(Program(read_module(text)))
-        found.engine.execute(0, "shop.join", [Amount(3)])
-        found.engine.execute(0, "shop.join", [Amount(-3)])
-        found.let_go()
-        self.check(found, [(("input", 0, 0), 3)])
-        found.engine.execute(0, "shop.take", [Amount(8)])
-        found.let_go()
-        self.check(found, [(("input", 0, 0), 3), (("cell", 1, "shop.cash"), 0)])
-        found = Told(Program(read_module(text)))
-        found.engine.execute(0, "shop.take", [Amount(0)])
-        found.engine.execute(0, "shop.take", [Amount(5)])
+        """Two amounts that are not below 0 are 0 as soon as their sum is shown not to be above 0."""
+        found = Told(Program(read_module(
+            "module shop\ncell cash\nexport procedure join x:amount\n  if (x less 0/1)\n    let bad = yes\n  add cash x\n  return\n"
+            "export procedure look -> truth\n  return (0/1 less @cash)\nexport procedure take x:amount\n  put cash = x\n  return\n")))
+        for _ in range(2):
+            found.engine.execute(0, "shop.join", [Amount(0)])
         found.let_go()
         self.check(found, [(("input", 0, 0), 0)])
-        found = Told(Program(read_module(text)))
-        found.engine.execute(0, "shop.take", [Amount(0)])
-        found.let_go()
         found.engine.execute(0, "shop.look", [])
+        found.let_go()
+        self.check(found, [])
+        flat = [Form(0, {"0.0": -1}), Form(0, {"1.0": -1}), Form(0, {"0.0": 1, "1.0": 1})]
+        check_same(self, found.archive.region().flat(), flat)
         found.engine.execute(0, "shop.take", [Amount(5)])
         found.let_go()
-        check_same(self, found.archive.kept(), [])
-        check_same(self, found.archive.region().flat(), [Form(0, {"0.0": -1}), Form(0, {"0.0": 1})])
+        self.check(found, [])
 
     def test_replacements(self):
         found = Told(PLACE, {"shop.tin": Amount(2)})

@@ -24,6 +24,7 @@ FUNCTIONS = {
     "seals": {"sealed": "record", "whole_records": "text"},
     "payloads": {"payload_of": "record", "read_payload": "text"},
     "replacing": {"replaced_cells": "program module cells=None", "judge": "program module procedure arguments stop cells=None"},
+    "archivetexts": {"archive_text": "archive", "read_archive": "text"},
     "inlining": {"inline": "code book", "optimized": "code *names *book=None", "optimized_book": "program *names"},
 }
 CONDITION = {"": "form", "holds_at": "point", "denied": "", "replaced": "forms"}
@@ -61,6 +62,21 @@ CLASSES = {
     ("journals", "Journal"): {"": "lanes", "enter": "lane pairs payload", "entries": "lane", "disk": "lane", "counting": "", "durable": "",
                               "cut": "", "order": "", "sync": "*lanes", "stopped": "lengths", "recovered": "", "drop": "cut", "clone": ""},
     ("replacing", "Verdict"): {"held": "", "needed": "", "told_rows": "", "direction": ""},
+    ("engine", "Engine"): {
+        "": "program *lanes=2 *cells=None *passes=()", "restored": "program journal *cells=None *passes=()", "cells": "", "clone": "",
+        "begin": "lane procedure arguments *weight=1", "step": "lane", "finish": "lane", "end": "lane", "drop": "lane",
+        "execute": "lane procedure arguments *weight=1", "replace": "lane module", "is_busy": "lane", "run_of": "lane", "call_of": "lane",
+        "attempt_of": "lane", "standing_of": "lane", "fate_of": "lane", "run_numbers": "", "record_of": "number", "lane_of": "number", "pairs": "number",
+        "cells_at": "number", "program_at": "number", "sync": "lane", "durable": "", "release": "", "journal": "", "ledger": ""},
+    ("archives", "Archive"): {
+        "": "program cells=None", "let_go": "engine", "records": "", "cells": "", "kept": "", "costs": "", "symbols": "", "region": "", "cell_forms": "",
+        "kept_forms": "", "point": "", "told_by": "form", "arguments_of": "run", "cells_before": "run", "program_before": "run", "trace_of": "run",
+        "form_trace_of": "run", "histories": "index", "clone": ""},
+    ("slots", "Slots"): {"": "first= second=", "texts": "", "save": "archive", "stopped": "archive length", "load": ""},
+    ("debugger", "Debugger"): {
+        "": "engine archive", "run_keys": "", "stops_of": "key", "at": "key stop", "told": "key stop frame name", "cursor": "", "go": "key stop",
+        "forward": "", "back": "", "spots": "", "why_kept": "index", "why_pair": "number other", "lost_by": "procedure arguments"},
+    ("console", "Console"): {"": "", "execute": "command", "run": "commands"},
 }
 PROPERTIES = {
     ("amounts", "Amount"): "top bottom sign",
@@ -74,6 +90,9 @@ PROPERTIES = {
     ("ledgers", "Attempt"): "lane place is_over",
     ("disks", "Disk"): "content sure",
     ("replacing", "Verdict"): "word place what",
+    ("engine", "Engine"): "program lanes released passes",
+    ("archives", "Archive"): "cut_number program taken",
+    ("console", "Console"): "debugger",
 }
 SPECIALS = {
     ("amounts", "Amount"): "add sub mul neg eq str repr",
@@ -87,6 +106,8 @@ SPECIALS = {
     ("ledgers", "Ledger"): "eq len",
     ("disks", "Disk"): "eq",
     ("journals", "Journal"): "eq",
+    ("engine", "Engine"): "eq len",
+    ("archives", "Archive"): "eq len",
 }
 
 
