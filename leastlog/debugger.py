@@ -77,13 +77,13 @@ class Debugger:
 
     def forward(self):
         """Moves the cursor to the next spot, from nowhere to the first one; returns it."""
-        spots, here = self._spots_now(), self.cursor()
-        return self._move_along(spots, 0 if here is None else spots.index(here) + 1)
+        row, here = self._spots_now(), self.cursor()
+        return self._move_along(row, 0 if here is None else row.index(here) + 1)
 
     def back(self):
         """Moves the cursor to the spot ahead, from nowhere to the last one; returns it."""
-        spots, here = self._spots_now(), self.cursor()
-        return self._move_along(spots, len(spots) - 1 if here is None else spots.index(here) - 1)
+        row, here = self._spots_now(), self.cursor()
+        return self._move_along(row, len(row) - 1 if here is None else row.index(here) - 1)
 
     def spots(self):
         """Yields all spots, as they are at the first request."""
@@ -139,10 +139,11 @@ class Debugger:
     def _spots_now(self):
         return [(key, stop) for key in self.run_keys() for stop in range(self._stop_count(key))]
 
-    def _move_along(self, spots, position):
-        if not 0 <= position < len(spots):
+    def _move_along(self, row, position):
+        """Moves the cursor to the spot at a position of a list of spots, if there is one."""
+        if not 0 <= position < len(row):
             raise NoSpot("there is no spot in this direction")
-        self._moved_to = spots[position]
+        self._moved_to = row[position]
         return self._moved_to
 
 

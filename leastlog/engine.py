@@ -218,8 +218,8 @@ class Engine:
     def durable(self):
         """The sorted list of the durable runs that are not released."""
         numbers = self._journal.durable()
-        spots = [(number, self._spot_of(number)) for number in self.run_numbers()]
-        return [number for number, (lane, place) in spots if place < numbers[lane]]
+        entries = [(number, self._spot_of(number)) for number in self.run_numbers()]
+        return [number for number, (lane, place) in entries if place < numbers[lane]]
 
     def release(self):
         """Forgets the ended runs, all of which are durable; returns their number."""
@@ -358,14 +358,12 @@ class Engine:
         return self._under_way[lane]
 
     def __eq__(self, other):
-        if not isinstance(other, Engine) or self._lanes != other._lanes:
-            return False
-        same_store = self._chronicle.program_now() == other._chronicle.program_now() and self.cells() == other.cells()
-        return same_store and alike(self._ended_and_begun(), other._ended_and_begun())
+        return isinstance(other, Engine) and alike(self._compared(), other._compared())
 
-    def _ended_and_begun(self):
-        """The records of the ended runs and the runs under way."""
-        return self._chronicle.records(), [None if run is None else run.state() for run in self._under_way]
+    def _compared(self):
+        """What makes engines equal."""
+        states = [None if run is None else run.state() for run in self._under_way]
+        return self._lanes, self.program, self.cells(), self._chronicle.records(), states
 
     def __len__(self):
         return len(self._ledger)
