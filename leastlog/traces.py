@@ -11,11 +11,6 @@ def stops_in(trace):
     return [(event[1], event[2]) for event in trace if event[0] == "stop"]
 
 
-def outcome_in(trace):
-    """What the run gave, or how it failed; None if it is not over."""
-    return trace[-1] if trace[-1][0] in ("gave", "failed") else None
-
-
 def outcome_word(trace):
     """The word of the outcome of a run that is over: gave, or why it failed."""
     word, told = trace[-1]

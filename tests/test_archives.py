@@ -300,6 +300,15 @@ class CopiesTest(unittest.TestCase):
         found.let_go()
         self.assertNotEqual(other, found.archive)
         check_same(self, [len(other), other.cut_number, other.cells()["shop.cash"], other.symbols(), len(found.archive)], [2, 1, Amount(5), ["0.0", "1.0"], 3])
+        check_same(self, [other.cell_forms()["shop.cash"], other.cells_before(2)["shop.cash"], other.point()], [Form.symbol("1.0"), Amount(5), {"0.0": Amount(3), "1.0": Amount(5)}])
+        third = found.archive.clone()
+        found.engine.execute(0, "shop.twin", [Amount(1), Amount(2)])
+        found.engine.replace(0, Module("shop"))
+        found.let_go()
+        check_same(self, [third.region().conditions(), third.cell_forms(), third.stop_count_of(2)], [[], {"shop.cash": Form.symbol("2.0"), "shop.tin": Form(0)}, 2])
+        self.assertEqual([third.program_before(3), third.program, third.program_before(0)], [PLACE] * 3)
+        check_error(self, UnknownRun, {"value": 3}, third.stop_count_of, 3)
+        check_same(self, [found.archive.stop_count_of(run) for run in range(5)], [2, 2, 2, 2, 0])
 
     def test_equality(self):
         calls = [("take", [3]), ("take", [5])]

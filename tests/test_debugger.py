@@ -130,6 +130,8 @@ class ToldTest(unittest.TestCase):
             check_error(self, UnknownStop, {"stop_number": value}, debugger.told, ("archive", 1), value, None, None)
         for value in (*ODD_VALUES, -1, 1, 10 ** 20):
             check_error(self, UnknownVariable, {"frame": value, "name": None}, debugger.told, ("archive", 2), 0, value, None)
+        for value in (*ODD_VALUES, -1, 1, 10 ** 20):
+            check_error(self, UnknownVariable, {"frame": value, "name": "x"}, debugger.told, ("archive", 2), 0, value, "x")
         for value in (*ODD_VALUES, 0, "held", "shop.cash", "z"):
             check_error(self, UnknownVariable, {"frame": 0, "name": value}, debugger.told, ("archive", 2), 0, 0, value)
         for name in ("n", "good"):
@@ -236,6 +238,26 @@ class CursorTest(unittest.TestCase):
         found.engine.step(2)
         found.engine.step(2)
         check_same(self, debugger.cursor(), (("live", 2), 2))
+
+    def test_a_run_that_is_begun_again(self):
+        debugger, found = scene()
+        debugger.go(("live", 2), 2)
+        found.engine.execute(1, "shop.take", [Amount(1)])
+        found.engine.finish(2)
+        found.engine.end(2)
+        check_same(self, [found.engine.fate_of(2), debugger.cursor()], ["version", None])
+        found.engine.step(2)
+        check_same(self, [debugger.stops_of(("live", 2)), debugger.cursor()], [2, None])
+        found.engine.step(2)
+        check_same(self, [debugger.stops_of(("live", 2)), debugger.cursor()], [3, (("live", 2), 2)])
+
+    def test_replacements_have_no_stops(self):
+        debugger, found = scene()
+        found.engine.replace(1, found.engine.program.module_named("shop"))
+        check_same(self, debugger.run_keys()[5:], [("ended", 5), ("live", 0), ("live", 2)])
+        for key in (("archive", 1), ("ended", 5)):
+            check_same(self, debugger.stops_of(key), 0)
+            check_error(self, UnknownStop, {"stop_number": 0}, debugger.at, key, 0)
 
     def test_debuggers_are_independent(self):
         debugger, found = scene()

@@ -408,10 +408,12 @@ class PassesTest(unittest.TestCase):
         engine = Engine(PROGRAM, passes=("inline", "drop"))
         check_same(self, engine.passes, ["inline", "drop"])
         engine.passes.append("x")
+        check_same(self, engine.passes, ["inline", "drop"])
         given = ["hoist"]
+        other = Engine(PROGRAM, passes=given)
         engine.passes = given
         given.append("x")
-        check_same(self, [engine.passes, engine.clone().passes], [["hoist"], ["hoist"]])
+        check_same(self, [engine.passes, engine.clone().passes, other.passes], [["hoist"], ["hoist"], ["hoist"]])
         engine.passes = ()
         check_same(self, engine.passes, [])
         check_same(self, Engine(PROGRAM, passes=[*PASSES, "inline"]).passes, [*PASSES, "inline"])
@@ -449,6 +451,13 @@ class CopiesTest(unittest.TestCase):
         check_same(self, [other.is_busy(0), other.durable(), engine.is_busy(1), engine.durable()], [False, [], True, [0]])
         ended(other, take(7, 2))
         check_same(self, [len(engine), engine.cells()["till.cash"], engine.journal().entries(2)], [1, Amount(3), []])
+        ended(other, (0, "till.move", [1]))
+        engine.replace(2, read_module(BANK.replace("-1/1", "1/1")))
+        check_same(self, [engine.run_numbers(), engine.record_of(1)[0], engine.lane_of(1), engine.stop_count_of(1), engine.cells_at(1)["till.cash"]], [[0, 1], "module", 2, 0, Amount(3)])
+        check_same(self, [other.run_numbers(), other.record_of(1)[1], other.lane_of(2), other.stop_count_of(2), other.cells_at(2)["till.cash"]],
+                   [[0, 1, 2], "till.take", 0, 3, Amount(7)])
+        self.assertEqual([other.program_at(2), other.program, engine.program_at(1)], [PROGRAM] * 3)
+        self.assertNotEqual(engine.program, PROGRAM)
 
     def test_equality(self):
         def make(*calls, **options):

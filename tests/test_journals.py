@@ -7,9 +7,11 @@ from random import Random
 from helpers import ODD_VALUES, check_error, check_same
 
 from leastlog.disks import Disk
+from leastlog.entries import entry_record, read_entry
 from leastlog.errors import InvalidCount, InvalidCut, InvalidLength, InvalidRecord
 from leastlog.failures import NotRecovered, UnknownEntry, UnknownLane
 from leastlog.journals import Journal
+from leastlog.lanelogs import LaneLog
 from leastlog.seals import sealed, whole_records
 
 NO_LANES = (*ODD_VALUES, -1, 3, 10 ** 20)
@@ -143,6 +145,27 @@ class EnterTest(unittest.TestCase):
             else:
                 check_error(self, NotRecovered, {"lane_number": 0}, found.enter, 0, None, None)
                 check_same(self, [found.enter(1, [], "c"), found.recovered().enter(0, [], "d")], [0, at // (length // 2)])
+
+
+class EntriesTest(unittest.TestCase):
+    """What is an entry on a disk, and what is not."""
+
+    def test_records(self):
+        for entry, record in (((2, 0, (), ""), "0 - "), ((2, 12, ((0, 3), (1, 10)), " a b"), "12 0.3,1.10  a b"), ((0, 999999999, ((7, 999999999),), "-"), "999999999 7.999999999 -")):
+            check_same(self, [read_entry(entry[0], record), entry_record(*entry[1:])], [entry, record])
+
+    def test_records_that_are_nearly_entries(self):
+        for record in ("", "0", "0 -", "0  ", " - x", "00 - x", "01 - x", "-1 - x", "+1 - x", "x - x", "0  - x", "0 1.0, x", "0 ,1.0 x", "0 1.0,1.0 x", "0 1.1,1.0 x", "0 1.10,1.9 x",
+                       "0 2.0 x", "0 1.00 x", "0 01.0 x", "0 1 x", "0 1.0.0 x", "0 .0 x", "0 1. x", "0 -1.0 x", "0 1.-1 x", "1000000000 - x", "0 1.1000000000 x", "0 -,1.0 x"):
+            check_same(self, read_entry(2, record), None)
+
+    def test_disks(self):
+        """The entries that are found are those ahead of the first row that is none, or has another place."""
+        rows = [sealed("3 - a"), sealed("4 1.0 b"), sealed("5 - c")]
+        for text, many in (("".join(rows), 3), (rows[0] + rows[2], 1), (rows[1], 0), (rows[0] + rows[0], 1), (rows[0] + sealed("4 0.0 b") + rows[2], 1), (rows[0] + "x" + rows[1], 1)):
+            log = LaneLog(0, Disk(text), 3)
+            check_same(self, [log.entries(), log.size(), log.sure_size()], [[(0, 3, (), "a"), (0, 4, ((1, 0),), "b"), (0, 5, (), "c")][:many], 3 + many, 3 + many])
+            check_same(self, log.is_recovered(), text == "".join(rows))
 
 
 class CountingTest(unittest.TestCase):

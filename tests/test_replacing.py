@@ -207,7 +207,7 @@ class JudgeTest(unittest.TestCase):
         for module in (till("export procedure pay", "procedure pay"), till("n:count", "n:truth"), till(" n:count", ""), till("x:amount n", "n:count x:amount z"),
                        till("procedure pay", "procedure paid"), Module("till")):
             check_error(self, UnknownProcedure, {"name": "till.pay"}, judge, PROGRAM, module, "till.pay", None, "x", 5)
-        check_error(self, UnknownProcedure, {"name": "till.idle"}, judge, PROGRAM, till("procedure idle", "export procedure idle"), "till.idle", [], 0)
+        check_error(self, UnknownProcedure, {"name": "till.idle"}, judge, PROGRAM, till("procedure idle", "export procedure idle"), "till.idle", None, "x", 5)
         check_same(self, verdict(till("n:count -> amount", "k:count -> amount"), 0).word, "carried")
 
     def test_other_errors(self):
@@ -221,6 +221,7 @@ class JudgeTest(unittest.TestCase):
             check_error(self, InvalidCells, {"key": "till"}, function, PROGRAM, till(), *given, {"till.cash": 1, "till": Amount(1)})
             check_error(self, InvalidCells, {"key": "till.cash"}, function, PROGRAM, till(), *given, {"till.cash": Form(1)})
             check_error(self, InvalidCells, {"key": None}, function, PROGRAM, till(), *given, {1: Amount(1)})
+        check_error(self, InvalidCells, {"key": None}, judge, PROGRAM, till(), *CALL, None, 5)
         stops = Run(PROGRAM, *CALL, CELLS)
         stops.finish()
         for value in (*[value for value in ODD_VALUES if value is not None], -1, stops.stop_count, 10 ** 20, Amount(1)):
